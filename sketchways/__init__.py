@@ -1,0 +1,1 @@
+"""Directions for towns of which only a sketch is known."""
