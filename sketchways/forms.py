@@ -58,6 +58,13 @@ def are_pairs(value, told):
     return ascends(value) and len(set(used)) == len(used)
 
 
+def is_same(one, other):
+    """Whether these are equal, with no bool in the place of an integer in any tuple."""
+    if isinstance(one, tuple) and isinstance(other, tuple):
+        return len(one) == len(other) and all([is_same(one[k], other[k]) for k in range(len(one))])
+    return isinstance(one, bool) == isinstance(other, bool) and one == other
+
+
 def in_order(rows):
     """The list of these things, sorted in Python's order."""
     # Written out, as sorted may not be given tuples in a package in which a class has an order.

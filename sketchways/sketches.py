@@ -100,6 +100,26 @@ def facts_of_either(one, other):
     return tuple(in_order([*one.facts, *[fact for fact in other.facts if fact not in one.facts]]))
 
 
+def only_signs(sketch):
+    """The signs that stand nowhere but where the sketch tells them."""
+    return [fact[1] for fact in sketch.facts if fact[0] == "only"]
+
+
+def told_crossing(sketch, name):
+    """The told crossing of this name."""
+    return [row for row in sketch.crossings if row[0] == name][0]
+
+
+def street_ends(sketch, name):
+    """The ends of told streets at this told crossing."""
+    return [stop[1] for street in sketch.streets for stop in street if stop[0] == name]
+
+
+def told_stops(sketch):
+    """The stops of told streets, as the keys of a dict."""
+    return {stop: True for street in sketch.streets for stop in street}
+
+
 class Sketch:
     """A sketch: told crossings and streets, and facts, which can be told and forgotten."""
 

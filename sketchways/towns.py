@@ -68,6 +68,27 @@ def sides_of(ends, on, behind):
     return others[:at], others[at + 1:][::-1]
 
 
+def view_from(crossing, behind):
+    """What a walker sees at this crossing with this end behind: (left, right, on, signs)."""
+    name, ends, straight, signs = crossing
+    on = straight_from(straight, behind)
+    left, right = sides_of(ends, on, behind)
+    return len(left), len(right), on is not None, signs
+
+
+def end_taken(crossing, behind, choice):
+    """The number of the end that the choice takes at this crossing, None if there is none."""
+    name, ends, straight, signs = crossing
+    if choice[0] == "back":
+        return behind
+    on = straight_from(straight, behind)
+    if choice[0] == "on":
+        return on
+    left, right = sides_of(ends, on, behind)
+    side = left if choice[0] == "left" else right
+    return side[choice[1] - 1] if choice[1] <= len(side) else None
+
+
 def mirrored_crossing(crossing):
     """This crossing of a town as its mirror image has it."""
     name, ends, straight, signs = crossing
@@ -143,10 +164,7 @@ class Town:
         """What a walker sees who stands here: (left, right, on, signs)."""
         if not is_told(stop, self._across):
             raise NoStop(stop)
-        name, ends, straight, signs = self._by_name[stop[0]]
-        on = straight_from(straight, stop[1])
-        left, right = sides_of(ends, on, stop[1])
-        return len(left), len(right), on is not None, signs
+        return view_from(self._by_name[stop[0]], stop[1])
 
     def taken(self, stop, choice):
         """The number of the end that the choice takes, None if there is none."""
@@ -154,12 +172,4 @@ class Town:
             raise NoStop(stop)
         if not is_choice(choice):
             raise BadChoice(choice)
-        name, ends, straight, signs = self._by_name[stop[0]]
-        if choice[0] == "back":
-            return stop[1]
-        on = straight_from(straight, stop[1])
-        if choice[0] == "on":
-            return on
-        left, right = sides_of(ends, on, stop[1])
-        side = left if choice[0] == "left" else right
-        return side[choice[1] - 1] if choice[1] <= len(side) else None
+        return end_taken(self._by_name[stop[0]], stop[1], choice)

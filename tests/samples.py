@@ -1,5 +1,6 @@
 """What several tests use: towns, sketches, and values of all kinds."""
 
+from sketchways.directions import Directions
 from sketchways.sketches import Sketch
 from sketchways.towns import Town
 
@@ -25,6 +26,7 @@ WAYS = (
     (("bridge", "a"), ("station", "s")),
 )
 FACTS = (("clear", "baker", "p"), ("only", "bridge"), ("shut", "bridge", "a"))
+TEXT = "until sign bridge\n  go on\ngo left 1\nhere"
 
 
 def example_town():
@@ -35,11 +37,72 @@ def example_sketch(facts=()):
     return Sketch(TOLD, WAYS, facts)
 
 
+def example_directions():
+    return Directions(TEXT)
+
+
 def star(ends, straight=(), signs=()):
     """A town with a crossing mid of so many ends, each of them joined to a blind end."""
     letters = "abcdefghijklmnopqrst"[:ends]
     crossings = (("mid", ends, straight, signs),) + tuple(("z" + letter, 1, (), ()) for letter in letters)
     return Town(crossings, tuple((("mid", k), ("z" + letter, 0)) for k, letter in enumerate(letters)))
+
+
+def stop_of(word):
+    """The stop of a word such as "bridge12"."""
+    name = word.rstrip("0123456789")
+    return name, int(word[len(name):])
+
+
+def town_of(crossings, streets=""):
+    """A town of these crossings, with streets such as "a0-b2 b0-b1"; each other end is joined to a blind end."""
+    rows = sorted(crossings)
+    pairs = [tuple(sorted(stop_of(word) for word in pair.split("-"))) for pair in streets.split()]
+    joined = {stop for pair in pairs for stop in pair}
+    blind = [(row[0], end) for row in rows for end in range(row[1]) if (row[0], end) not in joined]
+    for k, stop in enumerate(blind):
+        name = "zz" + chr(ord("a") + k // 26) + chr(ord("a") + k % 26)
+        rows.append((name, 1, (), ()))
+        pairs.append((stop, (name, 0)))
+    return Town(tuple(sorted(rows)), tuple(sorted(pairs)))
+
+
+def sketch_of(crossings, streets="", facts=()):
+    """A sketch of these crossings, with streets such as "a.p-b.q b.r-c.s"."""
+    pairs = [tuple(sorted(tuple(word.split(".")) for word in pair.split("-"))) for pair in streets.split()]
+    return Sketch(tuple(sorted(crossings)), tuple(sorted(pairs)), tuple(sorted(facts)))
+
+
+def filled_town(sketch, fillings):
+    """A town that holds the sketch with these fillings, by place, and the fit; what leads off comes to blind ends."""
+    rows, rounds, pairs, stops = [], [], [], {}
+    for name, ends, straight, signs in sketch.crossings:
+        counts, further = fillings["at", name]
+        numbers = [k + sum(counts[:k]) for k in range(len(ends))]
+        by_end = dict(zip(ends, numbers))
+        stops.update({(name, end): f"{name}{by_end[end]}" for end in ends})
+        turned = sorted(tuple(sorted((by_end[one], by_end[other]))) for one, other in straight)
+        rows.append((name, len(ends) + sum(counts), tuple(turned), tuple(sorted(signs + further))))
+        rounds.append(tuple(numbers))
+    ways = []
+    for number, (one, other) in enumerate(sketch.streets):
+        way, behind = [], stops[one]
+        for k, (left, right, signs) in enumerate(fillings["along", number]):
+            name = "q" + "abcdefg"[number] + chr(ord("a") + k)
+            rows.append((name, left + right + 2, ((0, left + 1),), signs))
+            way.append((name, 0, left + 1))
+            pairs.append(f"{behind}-{name}0")
+            behind = f"{name}{left + 1}"
+        pairs.append(f"{behind}-{stops[other]}")
+        ways.append(tuple(way))
+    return town_of(rows, " ".join(pairs)), (tuple(rounds), tuple(ways))
+
+
+def mirrored_filling(sketch, place, filling):
+    """What this filling of a place is in the mirror."""
+    if place[0] == "at":
+        return filling[0][::-1], filling[1]
+    return tuple((right, left, signs) for left, right, signs in filling)
 
 
 def nested(many):
@@ -48,12 +111,13 @@ def nested(many):
 
 
 def any_values():
-    """Values of every kind; none of them is a stop, a choice, a name or a fact of the samples."""
+    """Values of every kind; none of them is a stop, a choice, a fact, a place, a state, a view .. of the samples."""
     return [
         None, True, False, 0, 1, -1, 123456789, "", "A", "two words", "bridge ", (), (None,), (1, 2), (True, True),
         [], ["bridge"], ["bridge", 0], {}, {"bridge": 0}, {0: ("bridge", 0)}, [[[]]], nested(12),
         ("bridge",), ("bridge", None), ("bridge", "0"), (["bridge"], 0), ({}, []), (("bridge", 0),),
         example_town(), example_sketch(), (example_sketch(), example_town()), [example_sketch(FACTS)],
+        example_directions(), (example_directions(),),
     ]
 
 

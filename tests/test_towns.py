@@ -271,7 +271,9 @@ class EqualTest(unittest.TestCase):
         self.assertIs(False, example_town() == Town(PLACES, streets))
 
     def test_no_town(self):
-        for value in any_values()[:-4] + [example_sketch(), (PLACES, STREETS)]:
+        for value in any_values() + [(PLACES, STREETS)]:
+            if isinstance(value, Town):
+                continue
             with self.subTest(value=value):
                 self.assertIs(False, example_town() == value)
                 self.assertIs(False, value == example_town())
