@@ -268,6 +268,12 @@ class BadAnswerTest(unittest.TestCase):
             self.answer(STATION, filling, (0, FIRST))
         self.answer(BAKER, ((0, 0, ("elm",)),), (0, FIRST), (("clear", "bridge", "a"), full, only, shut))
 
+    def test_signs_with_names_of_crossings(self):
+        facts = (("clear", "baker", "p"), ("full", "station"), ("shut", "baker", "p"))
+        for sign in ("baker", "station"):
+            self.assertEqual(("go", "b", (2,)), self.answer(BRIDGE, ((0, 0, 0), (sign,)), ("a", FIRST), facts))
+            self.assertEqual(("out", 1, (1,)), self.answer(STATION, ((0, 0, (sign,)),), (0, FIRST), facts))
+
     def test_questions_to_a_crossing(self):
         # End c leads off: no walker comes by a told street from there.
         for question in (("c", FIRST), ("d", FIRST), (0, FIRST), ("a", (0,)), ("a", (3,)), ("a", -1), ("a", ()),

@@ -319,6 +319,13 @@ class PossibleTest(KnownCase):
                              (("go", "b", (2,)),))
         self.assert_possible(example_sketch(), text, BRIDGE, (), ("a", FIRST), (("go", "b", (2,)), ("leaves",)))
 
+    def test_signs_with_names_of_crossings(self):
+        sketch = example_sketch((("clear", "baker", "p"), ("full", "station"), ("shut", "baker", "p")))
+        for sign in ("baker", "station"):
+            text = f"if sign {sign}\n  here"
+            self.assert_possible(sketch, text, BRIDGE, (), ("a", FIRST), (("here",), ("lost",)))
+            self.assert_possible(sketch, text, STATION, (), (0, FIRST), (("here",), ("lost",), ("out", 1, FIRST)))
+
     def test_all_fillings_of_a_crossing(self):
         crossings = [("a", ("p", "q", "r"), (("p", "r"),), ("inn",)), ("b", ("s",), (), ())]
         sketch = sketch_of(crossings, "a.p-b.s a.q-a.r", [("shut", "a", "q")])
