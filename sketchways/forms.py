@@ -65,6 +65,13 @@ def is_same(one, other):
     return isinstance(one, bool) == isinstance(other, bool) and one == other
 
 
+def have_heads(value, rows, many):
+    """Whether this is a tuple of tuples of so many things, the first ones of which are those of these rows."""
+    if not is_row(value, len(rows)) or not all([is_row(row, many) for row in value]):
+        return False
+    return all([is_same(row[0], told[0]) for row, told in zip(value, rows)])
+
+
 def in_order(rows):
     """The list of these things, sorted in Python's order."""
     # Written out, as sorted may not be given tuples in a package in which a class has an order.

@@ -2,9 +2,10 @@
 
 from sketchways.directions import is_state
 from sketchways.errors import BadFilling, BadKnown, BadPlace, BadQuestion
-from sketchways.fillings import ENDINGS, MOST_FURTHER, CrossingWays, StreetWays, answer_along, answer_at
+from sketchways.fillings import MOST_FURTHER, answer_along, answer_at, placed_crossing
 from sketchways.forms import are_names, ascends, in_order, is_integer, is_row
 from sketchways.sketches import only_signs, street_ends, told_crossing
+from sketchways.ways import Walker, Walkers
 
 MOST_STEPS = 500
 MOST_SIGNS = 8
@@ -72,27 +73,29 @@ def is_way_in(sketch, place, value):
     return is_integer(value) and value in (0, 1)
 
 
-def is_question(sketch, directions, place, value):
-    """Whether this is a question to this place."""
-    return is_row(value, 2) and is_way_in(sketch, place, value[0]) and is_state(value[1], directions.states)
-
-
-def is_answer(sketch, directions, place, value):
-    """Whether this is of the form of an answer of this place."""
-    if value in ENDINGS:
-        return True
-    if not is_row(value, 3) or value[0] != ("go" if place[0] == "at" else "out"):
+def is_question(sketch, walkers, place, value):
+    """Whether this is a question of these walkers to this place."""
+    if not is_row(value, 1 + len(walkers.all_states)) or not is_way_in(sketch, place, value[0]):
         return False
-    return is_question(sketch, directions, place, value[1:])
+    return all([is_state(state, states) for state, states in zip(value[1:], walkers.all_states)])
 
 
-def are_known(sketch, directions, place, value):
+def is_answer(sketch, walkers, place, value):
+    """Whether this is of the form of an answer of this place to these walkers."""
+    if value in walkers.endings:
+        return True
+    if not isinstance(value, tuple) or value[:1] != (("go",) if place[0] == "at" else ("out",)):
+        return False
+    return is_question(sketch, walkers, place, value[1:])
+
+
+def are_known(sketch, walkers, place, value):
     """Whether these are different questions to this place with answers, ascending."""
     if not isinstance(value, tuple) or not all([is_row(row, 2) for row in value]):
         return False
-    if not all([is_question(sketch, directions, place, question) for question, told in value]):
+    if not all([is_question(sketch, walkers, place, question) for question, told in value]):
         return False
-    if not all([is_answer(sketch, directions, place, told) for question, told in value]):
+    if not all([is_answer(sketch, walkers, place, told) for question, told in value]):
         return False
     return ascends([question for question, told in value])
 
@@ -103,23 +106,16 @@ def need_place(sketch, place):
         raise BadPlace(place)
 
 
-def need_known(sketch, directions, place, known):
+def need_known(sketch, walkers, place, known):
     """Raise BadKnown if this cannot be known of this place."""
-    if not are_known(sketch, directions, place, known):
+    if not are_known(sketch, walkers, place, known):
         raise BadKnown(known)
 
 
-def need_question(sketch, directions, place, question):
+def need_question(sketch, walkers, place, question):
     """Raise BadQuestion if this is no question to this place."""
-    if not is_question(sketch, directions, place, question):
+    if not is_question(sketch, walkers, place, question):
         raise BadQuestion(question)
-
-
-def ways_of(sketch, directions, place):
-    """The fillings of this place that may differ in answers, and their answers."""
-    if place[0] == "at":
-        return CrossingWays(sketch, directions, place[1])
-    return StreetWays(sketch, directions, place[1])
 
 
 def agreeing(ways, known):
@@ -131,22 +127,31 @@ def agreeing(ways, known):
     return found
 
 
+def different_answers(ways, fillings, question):
+    """The ascending list of all answers to this question of the fillings with these numbers."""
+    answers = ways.answers(question)
+    return in_order(list({answers[k]: True for k in fillings}))
+
+
 def answer(sketch, directions, place, filling, question):
     """The answer of this place with this filling."""
     need_place(sketch, place)
     if not is_filling(sketch, place, filling):
         raise BadFilling(filling)
-    need_question(sketch, directions, place, question)
-    if place[0] == "at":
-        return answer_at(sketch, directions, told_crossing(sketch, place[1]), filling, question)
-    return answer_along(directions, filling, question)
+    need_question(sketch, Walkers([directions]), place, question)
+    walker = Walker(directions)
+    if place[0] == "along":
+        return answer_along(walker, filling, question)
+    ends = street_ends(sketch, place[1])
+    return answer_at(walker, placed_crossing(told_crossing(sketch, place[1]), ends, filling), question)
 
 
 def filled(sketch, directions, place, known):
     """The (cost, filling) of a least filling by which all these questions have these answers, None if there is none."""
     need_place(sketch, place)
-    need_known(sketch, directions, place, known)
-    ways = ways_of(sketch, directions, place)
+    walkers = Walkers([directions])
+    need_known(sketch, walkers, place, known)
+    ways = walkers.ways(sketch, place)
     found = agreeing(ways, known)
     return ways.fillings[found[0]] if found else None
 
@@ -154,8 +159,8 @@ def filled(sketch, directions, place, known):
 def possible(sketch, directions, place, known, question):
     """All answers to this question by the fillings by which all known questions have their answers, ascending."""
     need_place(sketch, place)
-    need_known(sketch, directions, place, known)
-    need_question(sketch, directions, place, question)
-    ways = ways_of(sketch, directions, place)
-    answers = ways.answers(question)
-    return tuple(in_order(list({answers[k]: True for k in agreeing(ways, known)})))
+    walkers = Walkers([directions])
+    need_known(sketch, walkers, place, known)
+    need_question(sketch, walkers, place, question)
+    ways = walkers.ways(sketch, place)
+    return tuple(different_answers(ways, agreeing(ways, known), question))

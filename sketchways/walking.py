@@ -7,6 +7,17 @@ from sketchways.forms import is_told
 from sketchways.sketches import told_stops
 
 
+def done_at(town, directions, stop, state, kept):
+    """What a walker does who stands here: ("go", end, state), or how the walk ends; by what is not kept it leaves."""
+    done = directions.act(state, town.view(stop))
+    if done[0] != "go":
+        return done
+    end = town.taken(stop, done[1])
+    if end is None:
+        return ("lost",)
+    return ("leaves",) if kept is not None and (stop[0], end) not in kept else ("go", end, done[2])
+
+
 def walked(town, directions, start, kept):
     """The stops at which the walker stands, and how the walk ends; it leaves by an end that is not kept."""
     stops = []
@@ -16,15 +27,10 @@ def walked(town, directions, start, kept):
     while (stop, state) not in been:
         been[(stop, state)] = True
         stops.append(stop)
-        done = directions.act(state, town.view(stop))
+        done = done_at(town, directions, stop, state, kept)
         if done[0] != "go":
             return tuple(stops), done[0]
-        end = town.taken(stop, done[1])
-        if end is None:
-            return tuple(stops), "lost"
-        if kept is not None and (stop[0], end) not in kept:
-            return tuple(stops), "leaves"
-        stop = town[(stop[0], end)]
+        stop = town[(stop[0], done[1])]
         state = done[2]
     return tuple(stops), "round"
 
@@ -56,18 +62,22 @@ def placed_stops(sketch, fit):
     return {stop: numbers[stop] for stop in told_stops(sketch)}
 
 
+def kept_stops(sketch, fit):
+    """The stops of the town that are on the told streets and their ways, by this fit, as the keys of a dict."""
+    kept = {stop: True for stop in placed_stops(sketch, fit).values()}
+    for name, one, other in [row for way in fit[1] for row in way]:
+        kept[(name, one)] = True
+        kept[(name, other)] = True
+    return kept
+
+
 def led(sketch, town, fit, directions, start, goal):
     """How the walk from this stop of the sketch ends, if it ends as soon as it leaves the sketch."""
     if not is_fit(sketch, town, fit):
         raise BadFit(fit)
     need_start(sketch, start)
     need_goal(sketch, goal)
-    placed = placed_stops(sketch, fit)
-    kept = {stop: True for stop in placed.values()}
-    for name, one, other in [row for way in fit[1] for row in way]:
-        kept[(name, one)] = True
-        kept[(name, other)] = True
-    stops, finish = walked(town, directions, placed[start], kept)
+    stops, finish = walked(town, directions, placed_stops(sketch, fit)[start], kept_stops(sketch, fit))
     if finish != "here":
         return finish
     return "comes" if stops[-1][0] == goal else "wrong"

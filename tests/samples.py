@@ -1,5 +1,7 @@
 """What several tests use: towns, sketches, and values of all kinds."""
 
+import itertools
+
 from sketchways.directions import Directions
 from sketchways.sketches import Sketch
 from sketchways.towns import Town
@@ -96,6 +98,47 @@ def filled_town(sketch, fillings):
         pairs.append(f"{behind}-{stops[other]}")
         ways.append(tuple(way))
     return town_of(rows, " ".join(pairs)), (tuple(rounds), tuple(ways))
+
+
+def cost_of_fit(sketch, town, fit):
+    """What it costs that this town is more than the sketch, by this fit."""
+    rows = {row[0]: row for row in town.crossings}
+    cost = sum(rows[told[0]][1] - len(told[1]) + len(rows[told[0]][3]) - len(told[3]) for told in sketch.crossings)
+    return cost + sum(rows[name][1] - 1 + len(rows[name][3]) for way in fit[1] for name, _, _ in way)
+
+
+def splits(cost, many):
+    """All ways to write a number as a sum of so many numbers from 0 to 4."""
+    if many == 0:
+        return [()] if cost == 0 else []
+    return [(first, *rest) for first in range(min(cost, 4) + 1) for rest in splits(cost - first, many - 1)]
+
+
+def fillings_of(sketch, place, signs, cost):
+    """All fillings of this place that cost so much, with further signs of these ones."""
+    barred = {fact[1] for fact in sketch.facts if fact[0] == "only"}
+    free = [sign for sign in signs if sign not in barred]
+    if place[0] == "along":
+        if cost == 0 or ("clear", *sketch.streets[place[1]][0]) in sketch:
+            return [()] if cost == 0 else []
+        steps = [(many, (*sides, some)) for many in range(1, cost + 1) for k in range(many)
+                 for sides in splits(many - 1 - k, 2) for some in itertools.combinations(free, k)]
+        return [(step, *rest) for many, step in steps for rest in fillings_of(sketch, place, signs, cost - many)]
+    name, ends, straight, told = [row for row in sketch.crossings if row[0] == place[1]][0]
+    shut = [("shut", name, end) in sketch for end in ends]
+    free = [] if ("full", name) in sketch else [sign for sign in free if sign not in told]
+    return [(counts, some) for k in range(cost + 1) for some in itertools.combinations(free, k)
+            for counts in splits(cost - k, len(ends)) if not any(a and b for a, b in zip(counts, shut))]
+
+
+def all_fillings(sketch, signs, cost):
+    """All fillings of all places, as dicts by place, that cost so much together, with further signs of these ones."""
+    places = [("at", row[0]) for row in sketch.crossings] + [("along", k) for k in range(len(sketch.streets))]
+    found = [(0, {})]
+    for place in places:
+        found = [(done + more, {**fillings, place: filling}) for done, fillings in found
+                 for more in range(cost - done + 1) for filling in fillings_of(sketch, place, signs, more)]
+    return [fillings for done, fillings in found if done == cost]
 
 
 def mirrored_filling(sketch, place, filling):

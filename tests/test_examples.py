@@ -53,6 +53,31 @@ EXAMPLES = (
 >>> filled(sketch, directions, ('along', 1), (((1, (-1,)), ('lost',)),))
 (2, ((0, 0, ('bridge',)),))
 """),
+    (10, r"""
+>>> from sketchways.judging import verdict
+>>> found = verdict(sketch, directions, ('station', 's'), 'baker', 'comes')
+>>> [found[0], len(verdict(more, directions, ('station', 's'), 'baker', 'comes')[1])]
+['broken', 7]
+"""),
+    (11, r"""
+>>> from sketchways.asking import worth_asking
+>>> least, greatest = worth_asking(sketch, directions, ('station', 's'), 'baker', 'comes', more.facts)
+>>> [[some for some, cases in least] == [more.facts], len(greatest)]
+[True, 3]
+"""),
+    (12, r"""
+>>> from sketchways.wording import cheapest
+>>> other = Directions('until sign bridge\n  go on\ngo right 1\nhere')
+>>> told = cheapest(more, other, ('station', 's'), 'baker', 'comes', ((1, '  go back', 0), (2, 'go left 1', 3)))
+>>> [told[:3], len(told[3]), [row[0] for row in told[4]]]
+[('choice', 3, (2,)), 7, [(), (1,), (1, 2)]]
+"""),
+    (13, r"""
+>>> from sketchways.comparing import alike
+>>> twin = Directions('while not sign bridge\n  go on\ngo left 1\nhere')
+>>> [alike(sketch, directions, twin, ('station', 's'))[0], alike(sketch, directions, other, ('station', 's'))[0]]
+['alike', 'apart']
+"""),
 )
 
 
