@@ -78,6 +78,25 @@ EXAMPLES = (
 >>> [alike(sketch, directions, twin, ('station', 's'))[0], alike(sketch, directions, other, ('station', 's'))[0]]
 ['alike', 'apart']
 """),
+    (15, r"""
+>>> from sketchways.texts import show_sketch
+>>> show_sketch(more).split('\n')[3:]
+['street baker p bridge b', 'street bridge a station s', 'clear baker p', 'only bridge', 'shut bridge a']
+"""),
+    (15, r"""
+>>> from sketchways.tours import Tour
+>>> tour = Tour(town, directions, ('station', 0))
+>>> [tour.step(), tour.step(), tour.step(), tour.stop, tour.finish, tour.orders, tour.undo(), tour.finish]
+[None, None, None, ('baker', 0), 'here', 3, None, None]
+>>> tour.journal.split('\n')[3:]
+['crossing yard 1 - -', 'street baker 0 bridge 1', 'street bridge 0 station 0', 'street bridge 2 yard 0', 'start station 0', '|until sign bridge', '|  go on', '|go left 1', '|here', 'orders', 'step', 'step']
+"""),
+    (16, r"""
+>>> from sketchways.desk import Desk
+>>> desk = Desk(Tour(town, directions, ('station', 0)))
+>>> [desk.say('where'), desk.say('step'), desk.say('view'), desk.say('step'), desk.say('step'), desk.say('undo')]
+['-', 'bridge 0', '1 0 yes bridge', 'baker 0', 'here', 'ok']
+"""),
 )
 
 
