@@ -42,7 +42,7 @@ class Desk:
         if not is_line(words):
             raise BadLine(line)
         if words[0] == "kept":
-            return self._kept(words[1], words[2])
+            return self._judged(words[1], words[2])
         if words[0] == "step" or words[0] == "go":
             return self._gone(words)
         if words[0] == "undo" or words[0] == "redo":
@@ -78,7 +78,7 @@ class Desk:
         left, right, on, signs = self._tour.town.view(self._tour.stop)
         return " ".join([str(left), str(right), "yes" if on else "no", in_one_word(signs)])
 
-    def _kept(self, wish, name):
+    def _judged(self, wish, name):
         name_behind, end = self._tour.stop_behind()
         start = (name_behind, name_of_end(end))
         return verdict(self._tour.sketch(), self._tour.directions, start, name, wish)[0]

@@ -43,8 +43,7 @@ def stepped(town, first, now):
 def reworded(now, directions):
     """How a tour stands that goes on by these directions."""
     stop, stops = now[1], now[3]
-    been = () if stop is None else ((stop, FIRST_STATE),)
-    return directions, stop, FIRST_STATE, stops, None, been
+    return directions, stop, FIRST_STATE, stops, None, ((stop, FIRST_STATE),)
 
 
 def told_lines(directions):

@@ -164,9 +164,11 @@ class AlikeTest(AlikeCase):
                             ("if sign inn\n  if sign oak\n    here\n  go back\nhere", 1),
                             ("if sign a\n  if sign b\n    if sign c\n      go on\nhere", 3)):
             self.assert_apart(street(), "here", other, start, cost)
-        self.assert_alike(street(END + (("full", "b"), ("shut", "b", "q"))), "here", "if sign inn\n  go back\nhere", start)
+        self.assert_alike(street(END + (("full", "b"), ("shut", "b", "q"))), "here", "if sign inn\n  go back\nhere",
+                          start)
         self.assert_apart(street(END), "if sign inn\n  go back\nhere", "if sign oak\n  go back\nhere", start, 1)
-        self.assert_apart(street(END + (("only", "oak"),)), "if sign inn\n  go back\nhere", "if sign oak\n  go back\nhere",
+        self.assert_apart(street(END + (("only", "oak"),)), "if sign inn\n  go back\nhere",
+                          "if sign oak\n  go back\nhere",
                           start, 1)
         self.assert_alike(street(END + (("only", "inn"), ("only", "oak"))), "if sign inn\n  go back\nhere",
                           "if sign oak\n  go back\nhere", start)
@@ -177,8 +179,10 @@ class AlikeTest(AlikeCase):
         one = lines(*[f"if not sign {word}\n  here" for word in ("a", "b", "c", "d")], "go back")
         other = lines(*[f"if not sign {word}\n  here" for word in ("e", "f", "g", "h")], "go back")
         self.assert_apart(street(END + (("shut", "b", "q"),)), one, other, ("a", "p"), 4)
-        only = lines("if not sign a", "  here", "if not sign b", "  here", "if sign c", "  if sign d", "    go back", "here")
-        text = lines("if not sign e", "  here", "if not sign f", "  here", "if sign g", "  if sign h", "    go back", "here")
+        only = lines("if not sign a", "  here", "if not sign b", "  here", "if sign c", "  if sign d", "    go back",
+                     "here")
+        text = lines("if not sign e", "  here", "if not sign f", "  here", "if sign g", "  if sign h", "    go back",
+                     "here")
         self.assert_apart(street(END + (("shut", "b", "q"),)), only, text, ("a", "p"), 4)
 
     def test_what_is_unknown_stays(self):
@@ -190,8 +194,10 @@ class AlikeTest(AlikeCase):
 
     def test_no_town_of_less_cost(self):
         sketch = sketch_of([("a", ("p", "q"), (("p", "q"),), ()), ("b", ("r",), (), ("bridge",))], "a.p-b.r")
-        texts = ("if left\n  go left 2\nuntil sign inn\n  go on\nhere", "if left\n  go left 2\nif not sign inn\n  go on\nhere",
-                 "until sign inn\n  go on\nhere", "go back\nuntil sign inn\n  go on\nhere", "if ends 2\n  go back\ngo on\nhere",
+        texts = ("if left\n  go left 2\nuntil sign inn\n  go on\nhere",
+                 "if left\n  go left 2\nif not sign inn\n  go on\nhere",
+                 "until sign inn\n  go on\nhere", "go back\nuntil sign inn\n  go on\nhere",
+                 "if ends 2\n  go back\ngo on\nhere",
                  "if ends 2\n  go on\ngo on\nhere")
         for pair in itertools.combinations(texts, 2):
             found = alike(sketch, Directions(pair[0]), Directions(pair[1]), ("b", "r"))
@@ -202,8 +208,10 @@ class AlikeTest(AlikeCase):
                     self.assertNotEqual("apart", walk_of_two(sketch, town, found, pair, ("b", "r")))
 
     def test_more_facts(self):
-        pairs = ((example_directions().text, lines("until sign bridge", "  go on", "if right", "  go right 1", "go left 1", "here")),
-                 (example_directions().text, lines("while not sign bridge", "  go on", "if ends 3", "  here", "go left 1", "here")))
+        pairs = ((example_directions().text, lines("until sign bridge", "  go on", "if right", "  go right 1",
+                                                   "go left 1", "here")),
+                 (example_directions().text, lines("while not sign bridge", "  go on", "if ends 3", "  here",
+                                                   "go left 1", "here")))
         for one, other in pairs:
             told = {}
             facts = FACTS + (("shut", "bridge", "c"), ("shut", "bridge", "b"))
@@ -233,7 +241,8 @@ class AlikeTest(AlikeCase):
 
 class ShowsAlikeTest(unittest.TestCase):
     def shown(self, value, sketch=None, other=TWIN):
-        return shows_alike(example_sketch(FACTS) if sketch is None else sketch, example_directions(), Directions(other), STATION,
+        return shows_alike(example_sketch(FACTS) if sketch is None else sketch, example_directions(),
+                           Directions(other), STATION,
                            value)
 
     def setUp(self):
@@ -276,12 +285,18 @@ class ShowsAlikeTest(unittest.TestCase):
 
     def test_forms(self):
         place, question, known = self.cases[0]
-        for case in ((place, question), [place, question, known], (place, question, list(known)), (place, question[:2], known),
-                     (place, (*question, FIRST), known), (place, (1, (2,), (3,)), known), (place, (1, (True,), (2,)), known),
-                     (place, (True, *question[1:]), known), (place, question, known[::-1]), (place, question, known + known),
-                     (place, question, ((*known[0][:2], ("out", 0, FIRST)),)), (place, question, ((*known[0][:2], ("end",)),)),
-                     (place, question, ((*known[0][:2], ("here",)),)), (place, question, ((*known[0][:2], ("end", "out")),)),
-                     (place, question, ((*known[0][:2], ("end", "apart")),)), (place, question, ((*known[0][:2], ("end", "here", 0)),)),
+        for case in ((place, question), [place, question, known], (place, question, list(known)),
+                     (place, question[:2], known),
+                     (place, (*question, FIRST), known), (place, (1, (2,), (3,)), known),
+                     (place, (1, (True,), (2,)), known),
+                     (place, (True, *question[1:]), known), (place, question, known[::-1]),
+                     (place, question, known + known),
+                     (place, question, ((*known[0][:2], ("out", 0, FIRST)),)),
+                     (place, question, ((*known[0][:2], ("end",)),)),
+                     (place, question, ((*known[0][:2], ("here",)),)),
+                     (place, question, ((*known[0][:2], ("end", "out")),)),
+                     (place, question, ((*known[0][:2], ("end", "apart")),)),
+                     (place, question, ((*known[0][:2], ("end", "here", 0)),)),
                      (place, question, ((*known[0][:2], ("out", 0, FIRST, (3,))),)),
                      (place, question, ((*known[0][:2], ("out", False, FIRST, FIRST)),)),
                      (place, question, ((known[0][0], (1, FIRST), known[0][2]),))):
@@ -289,7 +304,8 @@ class ShowsAlikeTest(unittest.TestCase):
                 self.assertIs(False, self.shown(("alike", (case,) + self.cases[1:])))
                 self.assertIs(False, self.shown(("alike", self.cases + (case,))))
         cases = self.cases
-        for value in any_values() + [("alike",), ("alike", cases, ()), ["alike", cases], ("kept", cases), ("apart", cases),
+        for value in any_values() + [("alike",), ("alike", cases, ()), ["alike", cases], ("kept", cases),
+                                     ("apart", cases),
                                      ("alike", list(cases)), (True, cases), cases]:
             self.assertIs(False, self.shown(value))
         for value in any_values():
@@ -318,7 +334,8 @@ class ShowsAlikeTest(unittest.TestCase):
         for fillings in ({}, {("at", "bridge"): ((0, 2, 0), ("inn",))}, {("along", 1): ((1, 1, ()), (0, 0, ("oak",)))}):
             self.assertIs(True, self.shown(self.broken(fillings), sketch, OTHER))
             self.assertIs(False, self.shown(self.broken(fillings), sketch, TWIN))
-        for told, shown in (({}, False), ({("along", 1): ((0, 0, ("inn",)),)}, True), ({("along", 0): ((0, 0, ("inn",)),)}, False)):
+        for told, shown in (({}, False), ({("along", 1): ((0, 0, ("inn",)),)}, True),
+                            ({("along", 0): ((0, 0, ("inn",)),)}, False)):
             other = lines("until sign bridge", "  if sign inn", "    here", "  go on", "go left 1", "here")
             self.assertIs(shown, self.shown(self.broken(told), sketch, other))
         self.assertIs(False, self.shown(self.broken({("along", 0): ((0, 0, ()),)}), example_sketch(FACTS), OTHER))
@@ -326,14 +343,18 @@ class ShowsAlikeTest(unittest.TestCase):
 
     def test_towns_by_how_two_walk(self):
         sketch, shown = example_sketch(), set()
-        texts = (example_directions().text, OTHER, "go on", "go back\nuntil sign inn\n  go on", "here", "if left\n  go left 2\nhere",
-                 "until sign inn\n  go on\nhere", "while on\n  if not on\n    here", "while sign bridge\n  if sign inn\n    go on")
+        texts = (example_directions().text, OTHER, "go on", "go back\nuntil sign inn\n  go on", "here",
+                 "if left\n  go left 2\nhere",
+                 "until sign inn\n  go on\nhere", "while on\n  if not on\n    here",
+                 "while sign bridge\n  if sign inn\n    go on",
+                 "until sign elm\n  go back", "while not sign elm\n  go back\n  go back")
         for fillings in ({}, {("at", "bridge"): ((1, 0, 1), ("inn",))}, {("along", 1): ((1, 0, ("inn",)), (0, 2, ()))}):
             town, found = filled_town(sketch, {**EMPTY, **fillings})
             for one, other in itertools.product(texts, texts):
                 apart = walk_of_two(sketch, town, found, (one, other), STATION) == "apart"
                 shown.add(apart)
-                self.assertIs(apart, shows_alike(sketch, Directions(one), Directions(other), STATION, ("apart", town, found)))
+                self.assertIs(apart, shows_alike(sketch, Directions(one), Directions(other), STATION,
+                                                 ("apart", town, found)))
         self.assertEqual({True, False}, shown)
 
     def test_forms_of_what_is_apart(self):
@@ -341,7 +362,8 @@ class ShowsAlikeTest(unittest.TestCase):
         word, town, found = self.broken({})
         self.assertIs(True, self.shown((word, town, found), sketch, OTHER))
         self.assertIs(True, self.shown((word, example_town(), fit(sketch, example_town())), sketch, OTHER))
-        for value in ((word, town), (word, town, found, ()), [word, town, found], ("broken", town, found), (word, found, town),
+        for value in ((word, town), (word, town, found, ()), [word, town, found], ("broken", town, found),
+                      (word, found, town),
                       (True, town, found), (word, town, None), (word, town, list(found)), (word, town, (found[0], ())),
                       (word, town, (found[0][:2], found[1])), (word, town, (((False,), *found[0][1:]), found[1]))):
             self.assertIs(False, self.shown(value, sketch, OTHER))

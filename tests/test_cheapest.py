@@ -62,7 +62,8 @@ class CheapestTest(unittest.TestCase):
                                  ("choice", 0, ()), [])
 
     def test_none(self):
-        self.assert_cheapest(example_sketch(), OTHER, STATION, "baker", "comes", OFFERS, ("none",), [(), (1,), (1, 2), (2,)])
+        self.assert_cheapest(example_sketch(), OTHER, STATION, "baker", "comes", OFFERS, ("none",),
+                             [(), (1,), (1, 2), (2,)])
         self.assert_cheapest(example_sketch(FACTS), OTHER, STATION, "baker", "comes", OFFERS[:1], ("none",), [(), (1,)])
 
     def test_the_order_of_choices(self):
@@ -134,7 +135,8 @@ class ShowsCheapestTest(unittest.TestCase):
         for k in range(3):
             rows = list(reasons)
             rows[k] = (rows[k][0], town, fit)
-            shown = shows_verdict(example_sketch(FACTS), with_lines(OTHER, OFFERS, rows[k][0]), STATION, "baker", "comes",
+            shown = shows_verdict(example_sketch(FACTS), with_lines(OTHER, OFFERS, rows[k][0]), STATION, "baker",
+                                  "comes",
                                   ("broken", town, fit))
             self.assertIs(shown, self.shown((word, price, chosen, cases, tuple(rows))))
             rows[k] = (rows[k][0], town, None)
@@ -144,9 +146,12 @@ class ShowsCheapestTest(unittest.TestCase):
         word, price, chosen, cases, reasons = self.found
         self.assertIs(True, self.shown(self.found))
         for value in ((word, price, chosen, cases), (word, price, chosen, cases, reasons, ()), list(self.found),
-                      ("none", price, chosen, cases, reasons), (word, 4, chosen, cases, reasons), (word, True, chosen, cases, reasons),
-                      (word, "3", chosen, cases, reasons), (word, price, (1, 2), cases, reasons), (word, price, [2], cases, reasons),
-                      (word, price, (), cases, reasons), (word, price, 2, cases, reasons), (word, price, chosen, cases, reasons[:2]),
+                      ("none", price, chosen, cases, reasons), (word, 4, chosen, cases, reasons),
+                      (word, True, chosen, cases, reasons),
+                      (word, "3", chosen, cases, reasons), (word, price, (1, 2), cases, reasons),
+                      (word, price, [2], cases, reasons),
+                      (word, price, (), cases, reasons), (word, price, 2, cases, reasons),
+                      (word, price, chosen, cases, reasons[:2]),
                       (word, price, chosen, cases, reasons[::-1]), (word, price, chosen, cases, list(reasons)),
                       (word, price, chosen, cases, reasons + reasons[:1]), (word, price, chosen, cases, reasons[1:]),
                       (word, price, chosen, cases, (list(reasons[0]),) + reasons[1:]), ("none", reasons), ("none", ()),
@@ -168,7 +173,8 @@ class ShowsCheapestTest(unittest.TestCase):
         found = cheapest(example_sketch(), Directions(OTHER), STATION, "baker", "comes", OFFERS)
         reasons = found[1]
         self.assertIs(True, self.shown(found, ()))
-        for value in (("none", reasons[:3]), ("none",), ("none", reasons, ()), ["none", reasons], ("none", list(reasons)),
+        for value in (("none", reasons[:3]), ("none",), ("none", reasons, ()), ["none", reasons],
+                      ("none", list(reasons)),
                       ("choice", reasons), ("none", reasons[::-1]), self.found, (None, reasons)):
             self.assertIs(False, self.shown(value, ()))
         for value in any_values():
@@ -190,7 +196,8 @@ class ErrorsTest(unittest.TestCase):
     def raised(self, error, start, goal, wish, offers, text=OTHER):
         sketch, directions = example_sketch(FACTS), Directions(text)
         value = caught(self, error, cheapest, sketch, directions, start, goal, wish, offers).value
-        self.assertIs(value, caught(self, error, shows_cheapest, sketch, directions, start, goal, wish, offers, 0).value)
+        self.assertIs(value, caught(self, error, shows_cheapest, sketch, directions, start, goal, wish, offers,
+                                    0).value)
         return value
 
     def assert_bad_offers(self, offers, text=OTHER):
@@ -241,7 +248,8 @@ class ErrorsTest(unittest.TestCase):
         self.assert_good_offers(((1, "  go back", 9),))
 
     def test_texts(self):
-        for text in ("go back", "    go back", "  go", "  go back ", "  go back\n  go on", "\n  go back", "  go back\n", "", "  go left 4",
+        for text in ("go back", "    go back", "  go", "  go back ", "  go back\n  go on", "\n  go back",
+                     "  go back\n", "", "  go left 4",
                      " go back", "  if on", "  else", "here", "  until sign inn"):
             self.assert_bad_offers(((1, text, 0),))
         for text in ("go left 1", "  go left 1", "here", "go on"):
@@ -265,7 +273,8 @@ class ErrorsTest(unittest.TestCase):
         rows = text + lines("", "if on", "  here")
         self.assert_bad_offers(((8, "if sign e", 0),), rows)
         self.assert_good_offers(((8, "if sign d", 0),), rows)
-        rows = lines("if on", "  here", "if on", "  here", "if sign a", "  here", "if sign b", "  here", "if sign c", "  here")
+        rows = lines("if on", "  here", "if on", "  here", "if sign a", "  here", "if sign b", "  here", "if sign c",
+                     "  here")
         self.assert_good_offers(((0, "if sign d", 0),), rows)
         self.assert_good_offers(((2, "if sign e", 0),), rows)
         self.assert_bad_offers(((0, "if sign d", 0), (2, "if sign e", 0)), rows)

@@ -5,7 +5,8 @@ import unittest
 from samples import any_values, caught, example_directions, example_town, star, town_of
 from sketchways.desk import Desk
 from sketchways.directions import Directions
-from sketchways.errors import (BadGoal, BadLine, BadNames, BadStart, BadWish, Finished, NoWay, NothingToRedo, NothingToUndo,
+from sketchways.errors import (BadGoal, BadLine, BadNames, BadStart, BadWish, Finished, NoWay, NothingToRedo,
+                               NothingToUndo,
                                TooMany, Undrawn)
 from sketchways.judging import verdict
 from sketchways.tours import Tour
@@ -32,7 +33,8 @@ class DeskCase(unittest.TestCase):
 class OrdersTest(DeskCase):
     def test_example(self):
         desk = desk_of()
-        self.assert_said(desk, ("where", "-"), ("step", "bridge 0"), ("view", "1 0 yes bridge"), ("step", "baker 0"), ("step", "here"),
+        self.assert_said(desk, ("where", "-"), ("step", "bridge 0"), ("view", "1 0 yes bridge"), ("step", "baker 0"),
+                         ("step", "here"),
                          ("undo", "ok"))
         self.assertEqual((2, None), (desk.tour.orders, desk.tour.finish))
 
@@ -47,8 +49,10 @@ class OrdersTest(DeskCase):
 
     def test_go(self):
         desk = desk_of()
-        self.assert_said(desk, ("step", "bridge 0"), ("go on", "yard 0"), ("go back", "bridge 2"), ("go right 1", "baker 0"),
-                         ("go back", "bridge 1"), ("go left 2", "station 0"), ("go back", "bridge 0"), ("go left 1", "baker 0"),
+        self.assert_said(desk, ("step", "bridge 0"), ("go on", "yard 0"), ("go back", "bridge 2"),
+                         ("go right 1", "baker 0"),
+                         ("go back", "bridge 1"), ("go left 2", "station 0"), ("go back", "bridge 0"),
+                         ("go left 1", "baker 0"),
                          ("orders", "8"))
         desk = Desk(Tour(star(8), Directions("here"), ("za", 0)))
         self.assert_said(desk, ("step", "mid 0"), ("go right 3", "zf 0"), ("go back", "mid 5"), ("go left 3", "za 0"))
@@ -56,8 +60,10 @@ class OrdersTest(DeskCase):
     def test_finishes(self):
         for text, finish in (("here", "here"), ("go right 1", "lost"), ("while on\n  if right\n    here", "round")):
             desk = desk_of(text)
-            self.assert_said(desk, ("finish", "-"), ("step", "bridge 0"), ("finish", "-"), ("step", finish), ("finish", finish),
-                             ("where", "bridge 0"), ("view", "1 0 yes bridge"), ("orders", "2"), ("undo", "ok"), ("finish", "-"),
+            self.assert_said(desk, ("finish", "-"), ("step", "bridge 0"), ("finish", "-"), ("step", finish),
+                             ("finish", finish),
+                             ("where", "bridge 0"), ("view", "1 0 yes bridge"), ("orders", "2"), ("undo", "ok"),
+                             ("finish", "-"),
                              ("redo", "ok"), ("finish", finish))
             self.assert_fails(desk, "step", Finished, finish)
             self.assert_fails(desk, "go back", Finished, finish)
@@ -66,7 +72,8 @@ class OrdersTest(DeskCase):
         desk = desk_of()
         self.assert_fails(desk, "undo", NothingToUndo, None)
         self.assert_fails(desk, "redo", NothingToRedo, None)
-        self.assert_said(desk, ("orders", "0"), ("step", "bridge 0"), ("orders", "1"), ("undo", "ok"), ("orders", "0"), ("where", "-"),
+        self.assert_said(desk, ("orders", "0"), ("step", "bridge 0"), ("orders", "1"), ("undo", "ok"), ("orders", "0"),
+                         ("where", "-"),
                          ("redo", "ok"), ("where", "bridge 0"))
         self.assert_fails(desk, "redo", NothingToRedo, None)
 
@@ -80,11 +87,13 @@ class OrdersTest(DeskCase):
 
 class ViewTest(DeskCase):
     def test_views(self):
-        self.assert_said(desk_of(), ("view", "-"), ("step", "bridge 0"), ("view", "1 0 yes bridge"), ("go on", "yard 0"),
+        self.assert_said(desk_of(), ("view", "-"), ("step", "bridge 0"), ("view", "1 0 yes bridge"),
+                         ("go on", "yard 0"),
                          ("view", "0 0 no -"))
         town = star(4, ((0, 3),), ("church", "inn"))
         desk = Desk(Tour(town, Directions("here"), ("za", 0)))
-        self.assert_said(desk, ("step", "mid 0"), ("view", "2 0 yes church,inn"), ("go left 1", "zb 0"), ("go back", "mid 1"),
+        self.assert_said(desk, ("step", "mid 0"), ("view", "2 0 yes church,inn"), ("go left 1", "zb 0"),
+                         ("go back", "mid 1"),
                          ("view", "3 3 no church,inn"))
         desk = Desk(Tour(star(20, (), ("a", "b", "c")), Directions("here"), ("za", 0)))
         self.assert_said(desk, ("step", "mid 0"), ("view", "19 19 no a,b,c"))
@@ -97,7 +106,8 @@ class KeptTest(DeskCase):
         desk.say("step")
         self.assert_fails(desk, "kept comes baker", BadGoal, "baker")
         # The street to the bridge may have further crossings, the bridge further ends.
-        self.assert_said(desk, ("kept comes bridge", "broken"), ("kept true bridge", "kept"), ("kept stays bridge", "broken"))
+        self.assert_said(desk, ("kept comes bridge", "broken"), ("kept true bridge", "kept"),
+                         ("kept stays bridge", "broken"))
         desk.say("step")
         # As the walker came from the bridge, the start is there now.
         for wish in ("comes", "true", "stays"):
@@ -112,7 +122,8 @@ class KeptTest(DeskCase):
         town = town_of([("a", 1, (), ()), ("b", 1, (), ("inn",))], "a0-b0")
         desk = Desk(Tour(town, Directions("if sign inn\n  here"), ("a", 0)))
         desk.say("step")
-        self.assert_said(desk, ("kept comes b", "kept"), ("kept comes a", "broken"), ("kept stays a", "kept"), ("kept true a", "broken"))
+        self.assert_said(desk, ("kept comes b", "kept"), ("kept comes a", "broken"), ("kept stays a", "kept"),
+                         ("kept true a", "broken"))
         desk.say("step")
         self.assert_said(desk, ("finish", "here"), ("kept comes b", "kept"))
         desk.tour.reword(Directions("if sign inn\n  go back\nhere"))
@@ -129,7 +140,8 @@ class KeptTest(DeskCase):
     def test_ahead_of_the_first_step(self):
         desk = Desk(Tour(RING, Directions("go on\nhere"), ("a", 0)))
         found = verdict(desk.tour.sketch(), Directions("go on\nhere"), ("a", "ea"), "a", "comes")[0]
-        self.assert_said(desk, ("kept comes a", found), ("kept true a", verdict(desk.tour.sketch(), Directions("go on\nhere"),
+        self.assert_said(desk, ("kept comes a", found), ("kept true a",
+                                                         verdict(desk.tour.sketch(), Directions("go on\nhere"),
                                                                                ("a", "ea"), "a", "true")[0]))
         # A start without a line, though two other ends of its crossing have one.
         town = town_of([("a", 3, (), ())], "a0-a1")
@@ -137,7 +149,8 @@ class KeptTest(DeskCase):
         self.assert_fails(desk, "kept comes a", BadStart, ("a", "ec"))
         self.assert_fails(Desk(Tour(town, Directions("here"), ("zzaa", 0))), "kept comes a", Undrawn, ("zzaa",))
         desk = Desk(Tour(town, Directions("here"), ("a", 0)))
-        self.assert_said(desk, ("kept comes a", verdict(desk.tour.sketch(), Directions("here"), ("a", "ea"), "a", "comes")[0]))
+        self.assert_said(desk, ("kept comes a", verdict(desk.tour.sketch(), Directions("here"), ("a", "ea"), "a",
+                                                        "comes")[0]))
 
     def test_more_towns(self):
         for start in [stop for street in GRID.streets for stop in street]:
@@ -200,13 +213,18 @@ class BadLineTest(DeskCase):
     def test_lines(self):
         desk = desk_of()
         desk.say("step")
-        for word in ("step", "undo", "redo", "where", "view", "finish", "orders", "go on", "go back", "go left 1", "kept comes baker"):
-            for line in (word + " ", " " + word, word + "\n", "\n" + word, word.upper(), word + " 1", word.replace(" ", "  ") + " ",
+        for word in ("step", "undo", "redo", "where", "view", "finish", "orders", "go on", "go back", "go left 1",
+                     "kept comes baker"):
+            for line in (word + " ", " " + word, word + "\n", "\n" + word, word.upper(), word + " 1",
+                         word.replace(" ", "  ") + " ",
                          word + "\n" + word, word + "s s", word[1:]):
                 self.assert_fails(desk, line, BadLine, line)
-        for line in ("go", "go left", "go left 0", "go left 4", "go left one", "go right 1 1", "go on 1", "go straight", "go  on", "go left1",
-                     "kept", "kept comes", "kept comes baker x", "kept  baker", "kept comes ", "kept  ", "kept comes ba\nker", "kept co\nmes baker",
-                     "kept comes\nbaker", "kept\ncomes baker", "reword", "sketch", "journal", "here", "-", "copy", "orders step", "|here"):
+        for line in ("go", "go left", "go left 0", "go left 4", "go left one", "go right 1 1", "go on 1",
+                     "go straight", "go  on", "go left1",
+                     "kept", "kept comes", "kept comes baker x", "kept  baker", "kept comes ", "kept  ",
+                     "kept comes ba\nker", "kept co\nmes baker",
+                     "kept comes\nbaker", "kept\ncomes baker", "reword", "sketch", "journal", "here", "-", "copy",
+                     "orders step", "|here"):
             self.assert_fails(desk, line, BadLine, line)
 
 

@@ -22,16 +22,21 @@ from sketchways.wording import cheapest, shows_cheapest
 INTERFACE = {
     "towns": ["Town"], "sketches": ["Sketch"], "fits": ["fit", "shows_fit", "drawn"], "directions": ["Directions"],
     "walking": ["walk", "led"], "places": ["answer", "filled", "possible"], "judging": ["verdict", "shows_verdict"],
-    "asking": ["starts", "shows_starts", "worth_asking", "shows_worth_asking"], "wording": ["cheapest", "shows_cheapest"],
-    "comparing": ["alike", "shows_alike"], "tours": ["Tour"], "texts": ["show_town", "read_town", "show_sketch", "read_sketch"],
+    "asking": ["starts", "shows_starts", "worth_asking", "shows_worth_asking"],
+    "wording": ["cheapest", "shows_cheapest"],
+    "comparing": ["alike", "shows_alike"], "tours": ["Tour"],
+    "texts": ["show_town", "read_town", "show_sketch", "read_sketch"],
     "journals": ["read_tour"], "desk": ["Desk"],
 }
 METHODS = {
-    Town: ["crossings", "streets", "names", "view", "taken", "__contains__", "__len__", "__getitem__", "__eq__", "__invert__"],
-    Sketch: ["crossings", "streets", "facts", "net", "tell", "forget", "copy", "tellable", "__contains__", "__len__", "__or__",
+    Town: ["crossings", "streets", "names", "view", "taken", "__contains__", "__len__", "__getitem__", "__eq__",
+           "__invert__"],
+    Sketch: ["crossings", "streets", "facts", "net", "tell", "forget", "copy", "tellable", "__contains__", "__len__",
+             "__or__",
              "__and__", "__ior__", "__le__", "__lt__", "__ge__", "__gt__", "__eq__", "__invert__"],
     Directions: ["text", "states", "signs", "act", "__eq__", "__invert__", "__rshift__"],
-    Tour: ["town", "directions", "stop", "state", "stops", "finish", "orders", "step", "go", "reword", "undo", "redo", "tried",
+    Tour: ["town", "directions", "stop", "state", "stops", "finish", "orders", "step", "go", "reword", "undo", "redo",
+           "tried",
            "trial", "sketch", "copy", "journal", "__eq__"],
     Desk: ["tour", "say"],
 }
@@ -44,7 +49,8 @@ class InterfaceTest(unittest.TestCase):
         for name, words in INTERFACE.items():
             module = importlib.import_module("sketchways." + name)
             for word in words:
-                self.assertEqual(("sketchways." + name, word), (getattr(module, word).__module__, getattr(module, word).__name__))
+                self.assertEqual(("sketchways." + name, word),
+                                 (getattr(module, word).__module__, getattr(module, word).__name__))
 
     def test_methods_of_the_classes_themselves(self):
         for told, words in METHODS.items():
@@ -79,7 +85,8 @@ class NamesTest(unittest.TestCase):
     def test_walks(self):
         town, sketch = example_town(), example_sketch()
         self.assertEqual("here", walk(start=("station", 0), directions=example_directions(), town=town)[1])
-        self.assertEqual("comes", led(goal="baker", start=STATION, directions=example_directions(), fit=fit(sketch, town),
+        self.assertEqual("comes", led(goal="baker", start=STATION, directions=example_directions(),
+                                      fit=fit(sketch, town),
                                       town=town, sketch=sketch))
 
     def test_places(self):

@@ -4,7 +4,8 @@ import unittest
 
 from samples import any_values, caught, example_directions, example_town, star
 from sketchways.directions import Directions
-from sketchways.errors import BadCrossings, BadStreets, BadText, Finished, NoStop, NoWay, NothingToRedo, NothingToUndo, TooMany
+from sketchways.errors import (BadCrossings, BadStreets, BadText, Finished, NoStop, NothingToRedo, NothingToUndo, NoWay,
+                               TooMany)
 from sketchways.journals import read_tour
 from sketchways.tours import Tour
 from test_texts import TOWN, with_line
@@ -72,12 +73,15 @@ class JournalTest(unittest.TestCase):
         self.assertIsNone(caught(self, NothingToUndo, other.undo).value)
 
     def test_all_tours_are_read_back(self):
-        texts = ("until sign inn\n  go on\nhere", "again 3\n  go left 1\n  if on\n    go on\nhere", "while on\n  go on\ngo back")
+        texts = ("until sign inn\n  go on\nhere", "again 3\n  go left 1\n  if on\n    go on\nhere",
+                 "while on\n  go on\ngo back")
         for town, start in ((GRID, ("b", 0)), (~GRID, ("c", 1)), (RING, ("a", 0)), (example_town(), START)):
             for text in texts:
                 tour = Tour(town, Directions(text), start)
-                orders = [tour.step, tour.step, lambda: tour.go(("back",)), tour.step, lambda: tour.reword(Directions(texts[0])),
-                          lambda: tour.go(("right", 1)), tour.step, tour.step, tour.step, lambda: tour.reword(Directions("here")),
+                orders = [tour.step, tour.step, lambda: tour.go(("back",)), tour.step,
+                          lambda: tour.reword(Directions(texts[0])),
+                          lambda: tour.go(("right", 1)), tour.step, tour.step, tour.step,
+                          lambda: tour.reword(Directions("here")),
                           tour.step]
                 for order in orders:
                     try:
@@ -100,6 +104,13 @@ class ReadTourTest(unittest.TestCase):
         self.assertEqual((7, None, "here"), (tour.orders, tour.finish, tour.directions.text))
         self.assertEqual(HEAD + ORDERS, tour.journal)
         self.assertEqual((0, None), (read_tour(HEAD).orders, read_tour(HEAD).stop))
+
+    def test_orders_of_one_kind_behind_one_another(self):
+        for orders in ("\nstep\nstep", "\nstep\ngo back\ngo back",
+                       "\nreword\n|here\nreword\n|go on\n|here\nreword\n|here"):
+            self.assertEqual(HEAD + orders, read_tour(HEAD + orders).journal)
+            self.assertEqual(orders.count("step") + orders.count("go back") + orders.count("reword"),
+                             read_tour(HEAD + orders).orders)
 
     def test_towns_without_streets_are_for_town(self):
         text = "crossing a 1 - -\nstart a 0\n|here\norders"
@@ -140,12 +151,17 @@ class ReadTourTest(unittest.TestCase):
 
     def test_a_line_elsewhere(self):
         rows = (HEAD + ORDERS).split("\n")
-        for k, line, number in ((1, rows[4], 2), (0, rows[4], 0), (0, rows[7], 0), (0, "|here", 0), (0, "orders", 0), (0, "step", 0),
-                                (4, "|here", 4), (4, "orders", 4), (4, "step", 4), (6, rows[0], 6), (6, "|here", 6), (6, "orders", 6),
+        for k, line, number in ((1, rows[4], 2), (0, rows[4], 0), (0, rows[7], 0), (0, "|here", 0), (0, "orders", 0),
+                                (0, "step", 0),
+                                (4, "|here", 4), (4, "orders", 4), (4, "step", 4), (6, rows[0], 6), (6, "|here", 6),
+                                (6, "orders", 6),
                                 (8, rows[0], 8), (8, rows[4], 8), (8, rows[7], 8), (8, "orders", 8), (8, "step", 8),
-                                (10, rows[0], 10), (10, rows[4], 10), (10, rows[7], 10), (10, "step", 10), (10, "reword", 10),
-                                (13, "|here", 13), (14, "|here", 14), (14, "orders", 14), (14, rows[7], 14), (14, rows[0], 14),
-                                (14, rows[4], 14), (15, "|here", 15), (16, "step", 16), (16, "go on", 16), (16, "reword", 16),
+                                (10, rows[0], 10), (10, rows[4], 10), (10, rows[7], 10), (10, "step", 10),
+                                (10, "reword", 10),
+                                (13, "|here", 13), (14, "|here", 14), (14, "orders", 14), (14, rows[7], 14),
+                                (14, rows[0], 14),
+                                (14, rows[4], 14), (15, "|here", 15), (16, "step", 16), (16, "go on", 16),
+                                (16, "reword", 16),
                                 (16, "orders", 16), (20, "|here", 20), (17, "orders", 17)):
             self.assert_bad_text("\n".join(rows[:k] + [line] + rows[k:]), number)
         self.assert_bad_text("\n".join(rows[:7] + rows[8:12] + rows[7:8] + rows[12:]), 7)
@@ -156,19 +172,24 @@ class ReadTourTest(unittest.TestCase):
         for number, line in enumerate(rows):
             others = [" " + line, ""]
             if not line.startswith("|"):
-                others += [line + " ", line + "  x", line[:-1] if line in ("orders", "step", "reword") else line + ",", line.upper(),
+                others += [line + " ", line + "  x", line[:-1] if line in ("orders", "step", "reword") else line + ",",
+                           line.upper(),
                            line.replace(" ", "  ") if " " in line else line + "s", "|" + line if number != 8 else "x"]
             for other in others:
                 # A line with | may stand where directions do.
                 if not (other.startswith("|") and (number in range(8, 13) or rows[number - 1].startswith("|"))):
                     self.assert_bad_text(with_line(text, number, other), number)
-        for line in ("start station", "start station s", "start station 00", "start station 0 0", "start Station 0", "start - 0",
+        for line in ("start station", "start station s", "start station 00", "start station 0 0", "start Station 0",
+                     "start - 0",
                      "start station -1", "start station,0", "start abcdefghi 0", "start 0 station", "begin station 0"):
             self.assert_bad_text(with_line(text, 7, line), 7)
-        for line in ("go", "go left", "go left 0", "go left 4", "go left 01", "go left one", "go left 1 1", "go on 1", "go back 1",
-                     "go straight", "go right", "go  on", "go left  1", "Go on", "undo", "redo", "here", "step 1", "steps", "go-on"):
+        for line in ("go", "go left", "go left 0", "go left 4", "go left 01", "go left one", "go left 1 1", "go on 1",
+                     "go back 1",
+                     "go straight", "go right", "go  on", "go left  1", "Go on", "undo", "redo", "here", "step 1",
+                     "steps", "go-on"):
             self.assert_bad_text(with_line(text, 14, line), 14)
-        for line in ("crossing yard 01 - -", "crossing yard a - -", "crossing yard 1 - -,", "full yard", "crossing yard 1 -"):
+        for line in ("crossing yard 01 - -", "crossing yard a - -", "crossing yard 1 - -,", "full yard",
+                     "crossing yard 1 -"):
             self.assert_bad_text(with_line(text, 3, line), 3)
         for line in ("street bridge 2 yard", "street bridge c yard 0", "clear bridge a", "only inn"):
             self.assert_bad_text(with_line(text, 6, line), 6)
@@ -198,7 +219,8 @@ class ReadTourTest(unittest.TestCase):
         caught(self, NoStop, read_tour, with_line(HEAD, *wrong_start) + "\ngo on")
 
     def test_directions(self):
-        for line, number in (("|", 0), ("| ", 0), ("||here", 0), ("|until sign Bridge", 0), ("|until sign bridge ", 0), ("|go on", 1)):
+        for line, number in (("|", 0), ("| ", 0), ("||here", 0), ("|until sign Bridge", 0), ("|until sign bridge ", 0),
+                             ("|go on", 1)):
             self.assertEqual(number, caught(self, BadText, read_tour, with_line(HEAD, 8, line)).value)
         self.assertEqual(4, caught(self, BadText, read_tour, with_line(HEAD, 11, "|if on")).value)
         rows = ["|again 3", "|  again 3", "|    go on", "|    go on"]
@@ -218,10 +240,12 @@ class ReadTourTest(unittest.TestCase):
         self.assertEqual(("left", 3), caught(self, NoWay, read_tour, HEAD + "\nstep\ngo left 3\nstep").value)
         self.assertEqual(1, caught(self, BadText, read_tour, HEAD + "\nreword\n|here\n| here").value)
         self.assertEqual(1, caught(self, BadText, read_tour, HEAD + "\nstep\nreword\n|if on\ngo right 1").value)
-        self.assertEqual(("right", 1), caught(self, NoWay, read_tour, HEAD + "\nstep\ngo right 1\nreword\n|if on").value)
+        self.assertEqual(("right", 1), caught(self, NoWay, read_tour,
+                                              HEAD + "\nstep\ngo right 1\nreword\n|if on").value)
         self.assertEqual("here", caught(self, Finished, read_tour, text + "\nstep\nreword\n|if on").value)
         self.assertEqual(0, caught(self, BadText, read_tour, HEAD + "\nreword\n|\nstep\nstep\nstep\nstep").value)
-        self.assertEqual(12, caught(self, TooMany, read_tour, HEAD + "\nreword\n|again 3\n|  again 3\n|    go on\n|    go on").value)
+        self.assertEqual(12, caught(self, TooMany, read_tour,
+                                    HEAD + "\nreword\n|again 3\n|  again 3\n|    go on\n|    go on").value)
         self.assertEqual(None, read_tour(text + "\nreword\n|go back\n|here\nstep").finish)
 
 

@@ -88,19 +88,24 @@ class KeptTest(unittest.TestCase):
     def test_forms(self):
         cases = example_cases()
         place, question, known = cases[0]
-        for case in ((place, question), (place, question, known, ()), [place, question, known], (place, question, list(known)),
+        for case in ((place, question), (place, question, known, ()), [place, question, known],
+                     (place, question, list(known)),
                      (list(place), question, known), (place, list(question), known), (question, place, known),
-                     (("along", 2), question, known), (("along", False), question, known), (("at", "yard"), question, known),
+                     (("along", 2), question, known), (("along", False), question, known),
+                     (("at", "yard"), question, known),
                      (place, (True, (2,)), known), (place, (2, (2,)), known), (place, (1, (0,)), known),
-                     (place, (1, [2]), known), (place, (1, 2), known), (place, (1, (2,), (2,)), known), (place, ("b", (2,)), known),
+                     (place, (1, [2]), known), (place, (1, 2), known), (place, (1, (2,), (2,)), known),
+                     (place, ("b", (2,)), known),
                      (place, question, known[::-1]), (place, question, known + known), (place, question, known[:1] * 2),
                      (place, question, (known[0][:2],)), (place, question, (known[0] + (0,),)),
                      (place, question, (list(known[0]),)), (place, question, ((("at", "yard"), *known[0][1:]),)),
                      (place, question, ((known[0][0], (True, FIRST), known[0][2]),)),
                      (place, question, ((*known[0][:2], ("out", False, FIRST)),)),
                      (place, question, ((*known[0][:2], ("out", 2, FIRST)),)),
-                     (place, question, ((*known[0][:2], ("go", 0, FIRST)),)), (place, question, ((*known[0][:2], "lost"),)),
-                     (place, question, ((*known[0][:2], ("end", "lost")),)), (place, question, ((*known[0][:2], ("apart",)),)),
+                     (place, question, ((*known[0][:2], ("go", 0, FIRST)),)),
+                     (place, question, ((*known[0][:2], "lost"),)),
+                     (place, question, ((*known[0][:2], ("end", "lost")),)),
+                     (place, question, ((*known[0][:2], ("apart",)),)),
                      (place, question, ((*known[0][:2], ("out", 0, FIRST)), (*known[0][:2], ("out", 0, (1,)))))):
             with self.subTest(case=case):
                 self.assertIs(False, self.shown((case,) + cases[1:]))
@@ -117,9 +122,11 @@ class KeptTest(unittest.TestCase):
 
     def test_values_of_other_forms(self):
         cases = example_cases()
-        for value in any_values() + [("kept",), ("kept", cases, ()), ["kept", cases], ("true", cases), cases, ("kept", list(cases)),
+        for value in any_values() + [("kept",), ("kept", cases, ()), ["kept", cases], ("true", cases), cases,
+                                     ("kept", list(cases)),
                                      (True, cases), ("alike", cases), ("broken", cases), {"kept": cases}]:
-            self.assertIs(False, shows_verdict(example_sketch(FACTS), example_directions(), STATION, "baker", "comes", value))
+            self.assertIs(False, shows_verdict(example_sketch(FACTS), example_directions(), STATION, "baker", "comes",
+                                               value))
 
     def test_cases_of_what_is_broken(self):
         sketch, directions = example_sketch(FACTS[1:]), example_directions()
@@ -146,10 +153,12 @@ class RoundTest(unittest.TestCase):
         found = verdict(self.SKETCH, self.DIRECTIONS, ("a", "p"), "b", "comes")
         self.assertEqual(("kept", 2), (found[0], len(found[1])))
         street, state = ("along", 0), (2,)
-        known = tuple(sorted(((("at", "a"), ("p", state), ("go", "p", state)), (("at", "b"), ("q", state), ("go", "q", state)),
+        known = tuple(sorted(((("at", "a"), ("p", state), ("go", "p", state)),
+                              (("at", "b"), ("q", state), ("go", "q", state)),
                               (street, (0, state), ("out", 1, state)), (street, (1, state), ("out", 0, state)))))
         ring = tuple((place, question, known) for place, question, told in known)
-        self.assertEqual((True, True, False), tuple(self.shown(found[1] + ring, wish) for wish in ("true", "stays", "comes")))
+        self.assertEqual((True, True, False), tuple(self.shown(found[1] + ring, wish) for wish in ("true", "stays",
+                                                                                                   "comes")))
         for k in range(4):
             self.assertIs(False, self.shown(found[1] + ring[:k] + ring[k + 1:], "true"))
         # One who comes to the ring goes round, too.
@@ -190,7 +199,8 @@ class BrokenTest(unittest.TestCase):
             value = self.broken(fillings)
             self.assertEqual((True, True, False), tuple(self.shown(value, wish) for wish in ("comes", "true", "stays")))
         lost = {("along", 1): ((0, 0, ("bridge",)),)}
-        self.assertEqual((True, False, True), tuple(self.shown(self.broken(lost), wish) for wish in ("comes", "true", "stays")))
+        self.assertEqual((True, False, True), tuple(self.shown(self.broken(lost), wish) for wish in ("comes", "true",
+                                                                                                     "stays")))
 
     def test_towns_in_which_the_wish_is_kept(self):
         for fillings in ({}, {("along", 1): ((1, 2, ("inn",)),)}, {("at", "bridge"): ((0, 4, 4), ("oak",))}):
@@ -205,7 +215,8 @@ class BrokenTest(unittest.TestCase):
         self.assertIs(True, self.shown(("broken", town, fit(example_sketch(), town)), goal="station"))
 
     def test_towns_that_hold_no_sketch_of_such_facts(self):
-        for fillings, fact in (({("at", "bridge"): ((1, 0, 0), ())}, FACTS[2]), ({("along", 0): ((0, 0, ()),)}, FACTS[0]),
+        for fillings, fact in (({("at", "bridge"): ((1, 0, 0), ())}, FACTS[2]),
+                               ({("along", 0): ((0, 0, ()),)}, FACTS[0]),
                                ({("along", 1): ((0, 0, ("bridge",)),)}, FACTS[1])):
             value = self.broken(fillings)
             self.assertIs(True, self.shown(value, facts=tuple(other for other in FACTS if other != fact)))
@@ -216,9 +227,12 @@ class BrokenTest(unittest.TestCase):
         word, town, found = self.broken({("along", 0): ((0, 0, ()),)})
         rounds, ways = found
         self.assertIs(True, self.shown((word, town, found)))
-        for other in (None, (), (rounds,), (ways, rounds), (rounds, ()), (rounds, ((), ())), (rounds, ways[::-1]), list(found),
-                      (list(rounds), ways), (rounds, list(ways)), (rounds, ways, ()), (rounds, ((("qaa", False, 1),), ())),
-                      (((False,), *rounds[1:]), ways), (((1,), *rounds[1:]), ways), ((rounds[0], (0, 2, 1), rounds[2]), ways),
+        for other in (None, (), (rounds,), (ways, rounds), (rounds, ()), (rounds, ((), ())), (rounds, ways[::-1]),
+                      list(found),
+                      (list(rounds), ways), (rounds, list(ways)), (rounds, ways, ()),
+                      (rounds, ((("qaa", False, 1),), ())),
+                      (((False,), *rounds[1:]), ways), (((1,), *rounds[1:]), ways),
+                      ((rounds[0], (0, 2, 1), rounds[2]), ways),
                       *any_values()):
             self.assertIs(False, self.shown((word, town, other)))
 
@@ -226,7 +240,8 @@ class BrokenTest(unittest.TestCase):
         word, town, found = self.broken({("along", 0): ((0, 0, ()),)})
         for value in any_values() + [(word, town), (word, town, found, ()), [word, town, found], ("kept", town, found),
                                      (town, found), (town, word, found), (word, found, town), (word, (town, found)),
-                                     ("apart", town, found), (True, town, found), (word, (town.crossings, town.streets), found)]:
+                                     ("apart", town, found), (True, town, found),
+                                     (word, (town.crossings, town.streets), found)]:
             self.assertIs(False, self.shown(value))
         for value in any_values():
             self.assertIs(False, self.shown((word, value, found)))

@@ -58,7 +58,8 @@ class StartsTest(unittest.TestCase):
         sketch = example_sketch(FACTS)
         first = starts(sketch, example_directions(), "baker", "true")
         sketch.forget(FACTS[1])
-        self.assertEqual(["broken"] * 2, [row[1][0] for row in starts(sketch, example_directions(), "station", "stays")[:2]])
+        self.assertEqual(["broken"] * 2, [row[1][0] for row in starts(sketch, example_directions(), "station",
+                                                                      "stays")[:2]])
         sketch.tell(FACTS[1])
         self.assertEqual(first, starts(sketch, example_directions(), "baker", "true"))
 

@@ -2,7 +2,8 @@
 
 import unittest
 
-from samples import (FACTS, PLACES, STREETS, TOLD, WAYS, any_values, caught, example_sketch, example_town, sketch_of, star,
+from samples import (FACTS, PLACES, STREETS, TOLD, WAYS, any_values, caught, example_sketch, example_town, sketch_of,
+                     star,
                      town_of)
 from sketchways.errors import BadCrossings, BadFacts, BadStreets, BadText
 from sketchways.sketches import Sketch
@@ -62,8 +63,8 @@ class ShowTest(unittest.TestCase):
         self.assertEqual("crossing a p - -", show_sketch(sketch_of([("a", ("p",), (), ())])))
         sketch = sketch_of([("a", ("s", "r", "q", "p"), (("p", "q"), ("r", "s")), ("elm", "oak"))], "a.p-a.s",
                            [("full", "a"), ("only", "zoo"), ("shut", "a", "r"), ("shut", "a", "s"), ("only", "inn")])
-        self.assertEqual("crossing a s,r,q,p p-q,r-s elm,oak\nstreet a p a s\nfull a\nonly inn\nonly zoo\nshut a r\nshut a s",
-                         show_sketch(sketch))
+        self.assertEqual("crossing a s,r,q,p p-q,r-s elm,oak\nstreet a p a s\n"
+                         "full a\nonly inn\nonly zoo\nshut a r\nshut a s", show_sketch(sketch))
 
     def test_facts_as_they_are_now(self):
         sketch = example_sketch(FACTS)
@@ -77,7 +78,8 @@ class ReadTest(ReadCase):
         town = read_town(TOWN)
         self.assertEqual((Town, PLACES, STREETS), (town.__class__, town.crossings, town.streets))
         sketch = read_sketch(SKETCH)
-        self.assertEqual((Sketch, TOLD, WAYS, FACTS), (sketch.__class__, sketch.crossings, sketch.streets, sketch.facts))
+        self.assertEqual((Sketch, TOLD, WAYS, FACTS), (sketch.__class__, sketch.crossings, sketch.streets,
+                                                       sketch.facts))
         self.assertTrue(read_town(text=TOWN) == example_town() and read_sketch(text=SKETCH) == example_sketch(FACTS))
 
     def test_what_is_shown_is_read_back(self):
@@ -86,8 +88,10 @@ class ReadTest(ReadCase):
                              "abcdefgh0-abcdefgh1 abcdefgh3-b0")):
             self.assertTrue(town == read_town(show_town(town)))
             self.assertEqual(show_town(town), show_town(read_town(show_town(town))))
-        sketch = sketch_of([("a", ("s", "r", "q", "p"), (("p", "q"), ("r", "s")), ("elm", "oak")), ("b", ("abcdefgh",), (), ())],
-                           "a.p-a.s a.q-b.abcdefgh", [("full", "a"), ("only", "zoo"), ("shut", "a", "r"), ("only", "inn")])
+        sketch = sketch_of([("a", ("s", "r", "q", "p"), (("p", "q"), ("r", "s")), ("elm", "oak")),
+                            ("b", ("abcdefgh",), (), ())],
+                           "a.p-a.s a.q-b.abcdefgh", [("full", "a"), ("only", "zoo"), ("shut", "a", "r"),
+                                                      ("only", "inn")])
         for other in (sketch, ~sketch, example_sketch(), example_sketch(FACTS), sketch_of([("a", ("p",), (), ())])):
             self.assertTrue(other == read_sketch(show_sketch(other)))
 
@@ -115,45 +119,69 @@ class ReadTest(ReadCase):
                 self.assert_bad_text(read, with_line(text, number, "\n" + line), number)
 
     def test_words_of_towns(self):
-        for number, lines in ((1, ("crossing Bridge 3 0-2 bridge", "crossing abcdefghi 3 0-2 bridge", "crossing b1 3 0-2 bridge",
-                                   "crossing - 3 0-2 bridge", "crossing a,b 3 0-2 bridge", "crossing bridge - 0-2 bridge",
-                                   "crossing bridge a 0-2 bridge", "crossing bridge 03 0-2 bridge", "crossing bridge 3, 0-2 bridge",
-                                   "crossing bridge +3 0-2 bridge", "crossing bridge -3 0-2 bridge", "crossing bridge 3.0 0-2 bridge",
-                                   "crossing bridge 3_0 0-2 bridge", "crossing bridge a,b,c a-c bridge", "crossing bridge 3 02 bridge",
-                                   "crossing bridge 3 0-02 bridge", "crossing bridge 3 00-2 bridge", "crossing bridge 3 0-2, bridge",
-                                   "crossing bridge 3 ,0-2 bridge", "crossing bridge 3 0-1-2 bridge", "crossing bridge 3 0- bridge",
-                                   "crossing bridge 3 -2 bridge", "crossing bridge 3 -- bridge", "crossing bridge 3 0-a bridge",
-                                   "crossing bridge 3 0-2,- bridge", "crossing bridge 3 0-2,,1-2 bridge", "crossing bridge 3 0-2 Inn",
-                                   "crossing bridge 3 0-2 abcdefghi", "crossing bridge 3 0-2 inn,", "crossing bridge 3 0-2 ,inn",
-                                   "crossing bridge 3 0-2 inn,-", "crossing bridge 3 0-2 inn,,oak", "crossing bridge 3 0-2 0",
-                                   "crossing bridge 3 0-2", "crossing bridge 3 0-2 bridge inn", "cross bridge 3 0-2 bridge")),
-                              (5, ("street bridge 0 station", "street bridge 0 station 0 0", "street bridge a station 0",
-                                   "street bridge 00 station 0", "street bridge 0 station 00", "street bridge 0 Station 0",
-                                   "street Bridge 0 station 0", "street bridge -1 station 0", "street bridge - station 0",
-                                   "street bridge 0 station s", "street bridge 0-station 0", "street bridge,0 station,0",
-                                   "streets bridge 0 station 0", "clear bridge 0", "only bridge", "full bridge", "shut bridge 0",
+        for number, lines in ((1, ("crossing Bridge 3 0-2 bridge", "crossing abcdefghi 3 0-2 bridge",
+                                   "crossing b1 3 0-2 bridge",
+                                   "crossing - 3 0-2 bridge", "crossing a,b 3 0-2 bridge",
+                                   "crossing bridge - 0-2 bridge",
+                                   "crossing bridge a 0-2 bridge", "crossing bridge 03 0-2 bridge",
+                                   "crossing bridge 3, 0-2 bridge",
+                                   "crossing bridge +3 0-2 bridge", "crossing bridge -3 0-2 bridge",
+                                   "crossing bridge 3.0 0-2 bridge",
+                                   "crossing bridge 3_0 0-2 bridge", "crossing bridge a,b,c a-c bridge",
+                                   "crossing bridge 3 02 bridge",
+                                   "crossing bridge 3 0-02 bridge", "crossing bridge 3 00-2 bridge",
+                                   "crossing bridge 3 0-2, bridge",
+                                   "crossing bridge 3 ,0-2 bridge", "crossing bridge 3 0-1-2 bridge",
+                                   "crossing bridge 3 0- bridge",
+                                   "crossing bridge 3 -2 bridge", "crossing bridge 3 -- bridge",
+                                   "crossing bridge 3 0-a bridge",
+                                   "crossing bridge 3 0-2,- bridge", "crossing bridge 3 0-2,,1-2 bridge",
+                                   "crossing bridge 3 0-2 Inn",
+                                   "crossing bridge 3 0-2 abcdefghi", "crossing bridge 3 0-2 inn,",
+                                   "crossing bridge 3 0-2 ,inn",
+                                   "crossing bridge 3 0-2 inn,-", "crossing bridge 3 0-2 inn,,oak",
+                                   "crossing bridge 3 0-2 0",
+                                   "crossing bridge 3 0-2", "crossing bridge 3 0-2 bridge inn",
+                                   "cross bridge 3 0-2 bridge")),
+                              (5, ("street bridge 0 station", "street bridge 0 station 0 0",
+                                   "street bridge a station 0",
+                                   "street bridge 00 station 0", "street bridge 0 station 00",
+                                   "street bridge 0 Station 0",
+                                   "street Bridge 0 station 0", "street bridge -1 station 0",
+                                   "street bridge - station 0",
+                                   "street bridge 0 station s", "street bridge 0-station 0",
+                                   "street bridge,0 station,0",
+                                   "streets bridge 0 station 0", "clear bridge 0", "only bridge", "full bridge",
+                                   "shut bridge 0",
                                    "street 0 bridge 0 station"))):
             for line in lines:
                 self.assert_bad_text(read_town, with_line(TOWN, number, line), number)
 
     def test_words_of_sketches(self):
         for number, lines in ((1, ("crossing Bridge a,b,c a-c bridge", "crossing abcdefghi a,b,c a-c bridge",
-                                   "crossing bridge - a-c bridge", "crossing bridge 3 a-c bridge", "crossing bridge a,b,C a-c bridge",
+                                   "crossing bridge - a-c bridge", "crossing bridge 3 a-c bridge",
+                                   "crossing bridge a,b,C a-c bridge",
                                    "crossing bridge a,b, a-c bridge", "crossing bridge ,a,b a-c bridge",
                                    "crossing bridge a,-,c a-c bridge", "crossing bridge a,b,c a-c- bridge",
                                    "crossing bridge a,b,c ac bridge", "crossing bridge a,b,c a-0 bridge",
                                    "crossing bridge a,b,c a-c, bridge", "crossing bridge a,b,c a-b-c bridge",
                                    "crossing bridge a,b,c -c bridge", "crossing bridge a,b,c a-c bridge,",
-                                   "crossing bridge a,b,c a-c bridge,-", "crossing bridge a,b,c a-c 1", "crossing bridge 3 0-2 bridge",
-                                   "crossing bridge a,b,c a-c", "crossing bridge a b c a-c bridge", "crossing bridge a,b,c a-c a b")),
+                                   "crossing bridge a,b,c a-c bridge,-", "crossing bridge a,b,c a-c 1",
+                                   "crossing bridge 3 0-2 bridge",
+                                   "crossing bridge a,b,c a-c", "crossing bridge a b c a-c bridge",
+                                   "crossing bridge a,b,c a-c a b")),
                               (4, ("street bridge a station", "street bridge 0 station s", "street bridge a station 0",
-                                   "street bridge a,b station s", "street bridge - station s", "street bridge a station s s",
+                                   "street bridge a,b station s", "street bridge - station s",
+                                   "street bridge a station s s",
                                    "street bridge a Station s", "street - a station s")),
-                              (5, ("clear baker", "clear baker p p", "clear baker -", "clear - p", "clear baker 0", "clear Baker p",
+                              (5, ("clear baker", "clear baker p p", "clear baker -", "clear - p", "clear baker 0",
+                                   "clear Baker p",
                                    "clear baker,p")),
-                              (6, ("only", "only bridge inn", "only -", "only bridge,inn", "only 1", "only Bridge", "full", "full -",
+                              (6, ("only", "only bridge inn", "only -", "only bridge,inn", "only 1", "only Bridge",
+                                   "full", "full -",
                                    "full baker p", "full baker,bridge", "clears baker", "- bridge")),
-                              (7, ("shut bridge", "shut bridge a b", "shut bridge 0", "shut bridge a,b", "shut - a", "start bridge a"))):
+                              (7, ("shut bridge", "shut bridge a b", "shut bridge 0", "shut bridge a,b", "shut - a",
+                                   "start bridge a"))):
             for line in lines:
                 self.assert_bad_text(read_sketch, with_line(SKETCH, number, line), number)
 
@@ -172,8 +200,10 @@ class ReadTest(ReadCase):
 
     def test_what_is_wrong_for_towns(self):
         bare = lambda name, ends=1: (name, ends, (), ())
-        for line, row in (("crossing bridge 0 - bridge", ("bridge", 0, (), ("bridge",))), ("crossing bridge 21 - -", bare("bridge", 21)),
-                          ("crossing bridge 3 2-0 -", ("bridge", 3, ((2, 0),), ())), ("crossing bridge 3 0-3 -", ("bridge", 3, ((0, 3),), ())),
+        for line, row in (("crossing bridge 0 - bridge", ("bridge", 0, (), ("bridge",))),
+                          ("crossing bridge 21 - -", bare("bridge", 21)),
+                          ("crossing bridge 3 2-0 -", ("bridge", 3, ((2, 0),), ())),
+                          ("crossing bridge 3 0-3 -", ("bridge", 3, ((0, 3),), ())),
                           ("crossing bridge 3 0-0 -", ("bridge", 3, ((0, 0),), ())),
                           ("crossing bridge 3 0-2,1-2 -", ("bridge", 3, ((0, 2), (1, 2)), ())),
                           ("crossing bridge 3 0-2 oak,inn", ("bridge", 3, ((0, 2),), ("oak", "inn"))),
@@ -183,8 +213,10 @@ class ReadTest(ReadCase):
         self.assert_raises(BadCrossings, read_town, "street baker 0 bridge 1", ())
         self.assert_raises(BadStreets, read_town, "crossing baker 1 - -", ())
         for line, row in (("street bridge 0 station 1", (("bridge", 0), ("station", 1))), ("street station 0 bridge 0",
-                                                                                          (("station", 0), ("bridge", 0))),
-                          ("street bridge 1 station 0", (("bridge", 1), ("station", 0))), ("street bridge 0 inn 0", (("bridge", 0), ("inn", 0)))):
+                                                                                          (("station", 0),
+                                                                                           ("bridge", 0))),
+                          ("street bridge 1 station 0", (("bridge", 1), ("station", 0))),
+                          ("street bridge 0 inn 0", (("bridge", 0), ("inn", 0)))):
             self.assert_raises(BadStreets, read_town, with_line(TOWN, 5, line), (STREETS[0], row, STREETS[2]))
         rows = TOWN.split("\n")
         self.assert_raises(BadStreets, read_town, "\n".join(rows[:-1]), STREETS[:2])
@@ -199,7 +231,8 @@ class ReadTest(ReadCase):
                           ("crossing bridge a,b,c,d,e - -", ("bridge", ("a", "b", "c", "d", "e"), (), ())),
                           ("crossing bridge a,b,c c-a -", ("bridge", ("a", "b", "c"), (("c", "a"),), ())),
                           ("crossing bridge a,b,c a-d -", ("bridge", ("a", "b", "c"), (("a", "d"),), ())),
-                          ("crossing bridge a,b,c - a,b,c,d,e", ("bridge", ("a", "b", "c"), (), ("a", "b", "c", "d", "e")))):
+                          ("crossing bridge a,b,c - a,b,c,d,e",
+                           ("bridge", ("a", "b", "c"), (), ("a", "b", "c", "d", "e")))):
             self.assert_raises(BadCrossings, read_sketch, with_line(SKETCH, 1, line), (TOLD[0], row, TOLD[2]))
         self.assert_raises(BadCrossings, read_sketch, "only inn", ())
         self.assert_raises(BadStreets, read_sketch, with_line(SKETCH, 4, "street bridge d station s"),
@@ -207,9 +240,12 @@ class ReadTest(ReadCase):
         self.assert_raises(BadStreets, read_sketch, with_line(SKETCH, 4, "street station s bridge a"),
                            (WAYS[0], (("station", "s"), ("bridge", "a"))))
         rows = SKETCH.split("\n")
-        self.assert_raises(BadFacts, read_sketch, "\n".join(rows[:6] + rows[7:] + rows[6:7]), (FACTS[0], FACTS[2], FACTS[1]))
-        self.assert_raises(BadFacts, read_sketch, with_line(SKETCH, 5, "clear bridge b"), (("clear", "bridge", "b"), *FACTS[1:]))
-        self.assert_raises(BadFacts, read_sketch, with_line(SKETCH, 7, "shut bridge d"), (*FACTS[:2], ("shut", "bridge", "d")))
+        self.assert_raises(BadFacts, read_sketch, "\n".join(rows[:6] + rows[7:] + rows[6:7]),
+                           (FACTS[0], FACTS[2], FACTS[1]))
+        self.assert_raises(BadFacts, read_sketch, with_line(SKETCH, 5, "clear bridge b"),
+                           (("clear", "bridge", "b"), *FACTS[1:]))
+        self.assert_raises(BadFacts, read_sketch, with_line(SKETCH, 7, "shut bridge d"),
+                           (*FACTS[:2], ("shut", "bridge", "d")))
         self.assert_raises(BadFacts, read_sketch, SKETCH + "\n" + rows[-1], FACTS + FACTS[2:])
         self.assert_raises(BadFacts, read_sketch, "crossing a p,q,r,s - -", ())
 

@@ -20,9 +20,11 @@ def lines(*rows):
 
 
 # Directions by which a street answers in so many ways, if no fact is told.
-WAYS_400 = Directions(lines("while left", "  go left 3", "  go on", "until not left", "  go right 2", "  go back", "  go on",
+WAYS_400 = Directions(lines("while left", "  go left 3", "  go on", "until not left", "  go right 2", "  go back",
+                            "  go on",
                             "  until not sign oak", "    go on"))
-WAYS_401 = Directions(lines("until not left", "  here", "  again 2", "    until right", "      go on", "      here", "    go on",
+WAYS_401 = Directions(lines("until not left", "  here", "  again 2", "    until right", "      go on", "      here",
+                            "    go on",
                             "    go on", "go on"))
 PAIR_400 = (Directions(lines("again 3", "  go on", "  while sign oak", "    go right 1", "here")),
             Directions(lines("while right", "  go on", "  if sign oak", "    go left 1", "here")))
@@ -33,11 +35,15 @@ PAIR_401 = (Directions(lines("go left 2", "if sign elm", "  again 3", "    go le
 NET_600 = ((("a", ("s", "t"), (("s", "t"),), ()), ("bb", ("q", "p", "s", "r"), (("q", "s"),), ()),
             ("q", ("r", "t", "p"), (), ("oak",))), "a.s-bb.p bb.q-bb.s bb.r-q.t q.p-q.r",
            [("full", "a"), ("only", "elm"), ("only", "oak"), ("shut", "a", "t"), ("shut", "bb", "r")])
-CASES_600 = Directions(lines("until sign inn", "  if on", "    go back", "  go right 2", "go on", "if ends 3", "  go back"))
+CASES_600 = Directions(lines("until sign inn", "  if on", "    go back", "  go right 2", "go on", "if ends 3",
+                             "  go back"))
 START_600 = ("q", "p")
-NET_601 = ((("bb", ("p", "s", "q", "t"), (("p", "s"), ("q", "t")), ("inn", "oak")), ("c", ("t", "r"), (("r", "t"),), ("elm",))),
-           "bb.p-c.r bb.q-bb.s bb.t-c.t", [("only", "oak"), ("shut", "bb", "q"), ("shut", "bb", "t"), ("shut", "c", "t")])
-CASES_601 = Directions(lines("again 2", "  until not ends 2", "    go on", "    while not ends 2", "      go back", "go on",
+NET_601 = ((("bb", ("p", "s", "q", "t"), (("p", "s"), ("q", "t")), ("inn", "oak")),
+            ("c", ("t", "r"), (("r", "t"),), ("elm",))),
+           "bb.p-c.r bb.q-bb.s bb.t-c.t", [("only", "oak"), ("shut", "bb", "q"), ("shut", "bb", "t"),
+                                           ("shut", "c", "t")])
+CASES_601 = Directions(lines("again 2", "  until not ends 2", "    go on", "    while not ends 2", "      go back",
+                             "go on",
                              "go right 1", "here"))
 START_601 = ("bb", "t")
 
@@ -45,7 +51,8 @@ PAIR_NET_600 = ((("a", ("r",), (), ("oak",)), ("bb", ("t", "r", "s"), (("r", "t"
                  ("inn", ("t", "p", "s"), (("s", "t"),), ("elm",)),
                  ("q", ("q", "p", "r", "t"), (("p", "t"), ("q", "r")), ("inn", "oak"))),
                 "a.r-q.p bb.r-bb.s bb.t-q.t c.p-inn.s inn.p-q.r inn.t-q.q",
-                [("full", "inn"), ("full", "q"), ("only", "elm"), ("only", "inn"), ("shut", "a", "r"), ("shut", "q", "q"),
+                [("full", "inn"), ("full", "q"), ("only", "elm"), ("only", "inn"), ("shut", "a", "r"),
+                 ("shut", "q", "q"),
                  ("shut", "q", "r"), ("shut", "q", "t")])
 PAIR_600 = (Directions(lines("if right", "  go on", "go back", "while sign inn", "  while sign inn", "    if left",
                              "      go right 1", "      go back", "  go on")),
@@ -54,9 +61,11 @@ PAIR_600 = (Directions(lines("if right", "  go on", "go back", "while sign inn",
 PAIR_NET_601 = ((("a", ("p", "r"), (), ()), ("bb", ("s", "p", "q", "t"), (), ()), ("c", ("q",), (), ()),
                  ("inn", ("r", "q", "p", "s"), (), ("oak",)), ("q", ("t", "r", "s", "p"), (), ("inn",))),
                 "a.p-bb.q a.r-c.q bb.p-q.r bb.s-inn.r bb.t-inn.s inn.q-q.s q.p-q.t",
-                [("clear", "a", "p"), ("clear", "inn", "q"), ("full", "a"), ("full", "c"), ("full", "inn"), ("only", "elm"),
+                [("clear", "a", "p"), ("clear", "inn", "q"), ("full", "a"), ("full", "c"), ("full", "inn"),
+                 ("only", "elm"),
                  ("shut", "bb", "q"), ("shut", "inn", "s"), ("shut", "q", "t")])
-PAIR_601 = (Directions(lines("while ends 3", "  if left", "    while ends 2", "      go right 2", "    go back", "  go right 2",
+PAIR_601 = (Directions(lines("while ends 3", "  if left", "    while ends 2", "      go right 2", "    go back",
+                             "  go right 2",
                              "here")),
             Directions(lines("while ends 3", "  if not sign inn", "    while ends 2", "      go right 2", "    go back",
                              "  go right 2", "here")))
@@ -74,13 +83,15 @@ class VerdictTest(unittest.TestCase):
         for wish in WISHES:
             call = (sketch_of(*NET_601), CASES_601, START_601, "c", wish)
             self.assertEqual(600, caught(self, TooMany, verdict, *call).value)
-            for value in (None, ("kept", ()), verdict(example_sketch(), example_directions(), STATION, "baker", "true")):
+            for value in (None, ("kept", ()), verdict(example_sketch(), example_directions(), STATION, "baker",
+                                                      "true")):
                 self.assertEqual(600, caught(self, TooMany, shows_verdict, *call, value).value)
 
     def test_more_than_six_hundred_cases_are_shown(self):
         sketch = sketch_of(*NET_600)
         cases = verdict(sketch, CASES_600, START_600, "a", "true")[1]
-        dead = (("at", "a"), ("s", (-1,)), ((("at", "a"), ("s", (-1,)), ("lost",)), (("at", "a"), ("s", (2,)), ("here",))))
+        dead = (("at", "a"), ("s", (-1,)), ((("at", "a"), ("s", (-1,)), ("lost",)),
+                                            (("at", "a"), ("s", (2,)), ("here",))))
         self.assertIs(True, shows_verdict(sketch, CASES_600, START_600, "a", "true", ("kept", cases + (dead,))))
 
     def test_four_hundred_ways(self):
@@ -100,7 +111,8 @@ class VerdictTest(unittest.TestCase):
 
     def test_ways_ahead_of_cases(self):
         # Where all streets but one are clear, there are too many cases already.
-        again = lines("until not left", "  here", "  again 2", "    until right", "      go on", "      here", "    go on",
+        again = lines("until not left", "  here", "  again 2", "    until right", "      go on", "      here",
+                      "    go on",
                       "    go on", "go on", "while not sign oak", "  go right 1")
         net = sketch_of(*NET_601)
         caught(self, TooMany, verdict, net, CASES_601, START_601, "c", "comes")
@@ -126,7 +138,8 @@ class StartsTest(unittest.TestCase):
 
     def test_ways(self):
         self.assertEqual(400, caught(self, TooMany, starts, example_sketch(), WAYS_401, "baker", "true").value)
-        self.assertEqual(400, caught(self, TooMany, shows_starts, example_sketch(), WAYS_401, "baker", "true", ()).value)
+        self.assertEqual(400, caught(self, TooMany, shows_starts, example_sketch(), WAYS_401, "baker", "true",
+                                     ()).value)
         self.assertEqual((), starts(sketch_of([("a", ("p",), (), ())]), WAYS_401, "a", "true"))
         self.assertEqual(4, len(starts(example_sketch(), WAYS_400, "baker", "true")))
 
@@ -146,10 +159,12 @@ class WorthAskingTest(unittest.TestCase):
     def test_ways(self):
         facts = (("clear", "baker", "p"), ("clear", "bridge", "a"))
         for told in ((), facts[:1]):
-            call = (example_sketch(told), WAYS_401, STATION, "baker", "comes", tuple(fact for fact in facts if fact not in told))
+            call = (example_sketch(told), WAYS_401, STATION, "baker", "comes",
+                    tuple(fact for fact in facts if fact not in told))
             self.assertEqual(400, caught(self, TooMany, worth_asking, *call).value)
             self.assertEqual(400, caught(self, TooMany, shows_worth_asking, *call, None).value)
-        self.assertEqual(2, len(worth_asking(example_sketch(facts), WAYS_401, STATION, "baker", "comes", (("full", "baker"),))))
+        self.assertEqual(2, len(worth_asking(example_sketch(facts), WAYS_401, STATION, "baker", "comes",
+                                             (("full", "baker"),))))
 
 
 class CheapestTest(unittest.TestCase):

@@ -13,7 +13,8 @@ from sketchways.walking import walk
 START = ("station", 0)
 BRIDGE, BAKER, YARD = ("bridge", 0), ("baker", 0), ("yard", 0)
 RING = Town((("a", 2, ((0, 1),), ()), ("b", 2, ((0, 1),), ("oak",))), ((("a", 0), ("b", 1)), (("a", 1), ("b", 0))))
-GRID = town_of([("a", 4, ((0, 2), (1, 3)), ("oak",)), ("b", 3, (), ("inn",)), ("c", 4, ((0, 3),), ()), ("d", 2, ((0, 1),), ())],
+GRID = town_of([("a", 4, ((0, 2), (1, 3)), ("oak",)), ("b", 3, (), ("inn",)), ("c", 4, ((0, 3),), ()),
+                ("d", 2, ((0, 1),), ())],
                "a0-b1 a2-c0 a3-a1 b0-d0 c3-d1 c1-b2")
 
 
@@ -80,9 +81,11 @@ class StepTest(TourCase):
             self.assertIs(value, caught(self, NoStop, Tour, example_town(), example_directions(), value).value)
 
     def test_as_walks_do(self):
-        texts = (example_directions().text, "here", "go on", "go on\nhere", "go right 1\ngo left 2\nhere", "until sign inn\n  go on",
+        texts = (example_directions().text, "here", "go on", "go on\nhere", "go right 1\ngo left 2\nhere",
+                 "until sign inn\n  go on",
                  lines("again 3", "  go left 1", "  if on", "    go on", "here"), "while on\n  go on\ngo back\nhere",
-                 lines("until sign elm", "  if left", "    go left 1", "  else", "    go back"), "while on\n  if not on\n    here",
+                 lines("until sign elm", "  if left", "    go left 1", "  else", "    go back"),
+                 "while on\n  if not on\n    here",
                  lines("while not sign inn", "  go right 1", "  again 2", "    if ends 2", "      go on", "here"))
         finishes = set()
         for town in (example_town(), RING, GRID, ~GRID, star(4, ((0, 2), (1, 3)), ("inn",))):
@@ -100,8 +103,10 @@ class StepTest(TourCase):
         self.assertEqual({"here", "lost", "round"}, finishes)
 
     def test_a_step_that_ends_the_walk(self):
-        for text, state, finish in (("here", (-1,), "here"), ("go right 1", (-1,), "lost"), ("if left\n  if on\n    go on", (1,), None),
-                                    ("while on\n  if right\n    here", (-1,), "round"), ("if not on\n  here", (-1,), "lost")):
+        for text, state, finish in (("here", (-1,), "here"), ("go right 1", (-1,), "lost"),
+                                    ("if left\n  if on\n    go on", (1,), None),
+                                    ("while on\n  if right\n    here", (-1,), "round"),
+                                    ("if not on\n  here", (-1,), "lost")):
             tour = Tour(example_town(), Directions(text), START)
             tour.step()
             tour.step()
@@ -149,7 +154,8 @@ class GoTest(TourCase):
 
     def test_bad_choices(self):
         tour = example_tour()
-        for value in any_values() + [("left",), ("left", 0), ("left", 4), ("left", True), ["on"], "on", "back", ("on", 1), ("go", "on"),
+        for value in any_values() + [("left",), ("left", 0), ("left", 4), ("left", True), ["on"], "on", "back",
+                                     ("on", 1), ("go", "on"),
                                      ("right", "1"), ("straight",)]:
             self.assertIs(value, caught(self, BadChoice, tour.go, value).value)
         tour.step()
@@ -255,8 +261,10 @@ class RewordTest(TourCase):
 class UndoTest(TourCase):
     def tour_of_orders(self):
         tour = Tour(GRID, Directions("until sign inn\n  go on\nhere"), ("b", 0))
-        orders = (tour.step, tour.step, lambda: tour.go(("left", 1)), tour.step, lambda: tour.reword(Directions("go on")),
-                  lambda: tour.go(("back",)), tour.step, tour.step, tour.step, lambda: tour.reword(Directions("here")), tour.step)
+        orders = (tour.step, tour.step, lambda: tour.go(("left", 1)), tour.step,
+                  lambda: tour.reword(Directions("go on")),
+                  lambda: tour.go(("back",)), tour.step, tour.step, tour.step, lambda: tour.reword(Directions("here")),
+                  tour.step)
         return tour, orders
 
     def test_nothing(self):
@@ -292,7 +300,8 @@ class UndoTest(TourCase):
         self.assertEqual(found[-2], told(tour))
 
     def test_another_order_ends_redo(self):
-        for order in (lambda tour: tour.step(), lambda tour: tour.go(("on",)), lambda tour: tour.reword(example_directions())):
+        for order in (lambda tour: tour.step(), lambda tour: tour.go(("on",)),
+                      lambda tour: tour.reword(example_directions())):
             tour = example_tour()
             tour.step()
             tour.step()
@@ -408,7 +417,8 @@ class EqualTest(TourCase):
 
     def test_parts(self):
         tour = example_tour()
-        for other in (Tour(~example_town(), example_directions(), START), Tour(example_town(), Directions("here"), START),
+        for other in (Tour(~example_town(), example_directions(), START),
+                      Tour(example_town(), Directions("here"), START),
                       Tour(example_town(), example_directions(), YARD)):
             self.assertFalse(tour == other)
             self.assertTrue(tour != other)

@@ -20,7 +20,8 @@ class Ended(BaseException):
 def tour_with_undone():
     """A tour of which two orders stand, and two can be done again."""
     tour = Tour(example_town(), example_directions(), START)
-    for order in (tour.step, tour.step, lambda: tour.reword(Directions("go back\nhere")), tour.step, tour.undo, tour.undo):
+    for order in (tour.step, tour.step, lambda: tour.reword(Directions("go back\nhere")), tour.step, tour.undo,
+                  tour.undo):
         order()
     return tour
 
@@ -62,7 +63,8 @@ class TriedTest(unittest.TestCase):
 
     def test_nothing_is_left(self):
         for look in looks():
-            for named in ({}, {"keep": False}, {"keep": 1}, {"keep": "yes"}, {"keep": None}, {"keep": (True,)}, {"keep": [0]}):
+            for named in ({}, {"keep": False}, {"keep": 1}, {"keep": "yes"}, {"keep": None}, {"keep": (True,)},
+                          {"keep": [0]}):
                 tour = tour_with_undone()
                 before = ways_on(tour)
                 tour.tried(look, **named)

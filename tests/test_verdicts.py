@@ -139,7 +139,8 @@ class WishTest(VerdictCase):
                            "baker", "round")
 
     def test_round_as_streets_are_a_ring(self):
-        ring = sketch_of([("a", ("p", "q"), (("p", "q"),), ()), ("b", ("p", "q"), (("p", "q"),), ())], "a.p-b.q a.q-b.p")
+        ring = sketch_of([("a", ("p", "q"), (("p", "q"),), ()), ("b", ("p", "q"), (("p", "q"),), ())],
+                         "a.p-b.q a.q-b.p")
         full = sketch_of(ring.crossings, "a.p-b.q a.q-b.p", [fact for fact in ring.tellable() if fact[0] != "only"])
         self.assert_how(full, "until sign inn\n  go on\nhere", ("a", "p"), "a", "round")
         loop = sketch_of([("a", ("p", "q"), (("p", "q"),), ())], "a.p-a.q")
@@ -162,17 +163,20 @@ class LeastTest(VerdictCase):
         self.assert_broken(self.sign("elm"), text, start, "b", "comes", 2, "lost")
         text = lines("if not sign inn", "  here", "if sign oak", "  go on", "if sign fir", "  go on", "here")
         self.assert_broken(self.sign("elm"), text, start, "b", "comes", 2, "lost")
-        text = lines("if not sign inn", "  here", "if sign oak", "  if sign fir", "    if sign ash", "      go on", "here")
+        text = lines("if not sign inn", "  here", "if sign oak", "  if sign fir", "    if sign ash", "      go on",
+                     "here")
         self.assert_broken(self.sign("elm"), text, start, "b", "stays", 4, "lost")
 
     def test_further_ends(self):
         for text, cost, how in (("if ends 1\n  go on\nhere", 1, "lost"), ("if ends 4\n  go on\nhere", 4, "lost"),
-                                ("if ends 2\n  go left 2\nhere", 2, "leaves"), ("if ends 3\n  go back\nhere", 3, "wrong"),
+                                ("if ends 2\n  go left 2\nhere", 2, "leaves"),
+                                ("if ends 3\n  go back\nhere", 3, "wrong"),
                                 ("while ends 3\n  if not left\n    here\nhere", 3, "round")):
             sketch = sketch_of([("a", ("p",), (), ()), ("b", ("q",), (), ())], "a.p-b.q",
                                [("clear", "a", "p"), ("full", "a"), ("shut", "a", "p")])
             self.assert_broken(sketch, text, ("a", "p"), "b", "comes", cost, how)
-            self.assert_kept(sketch_of(sketch.crossings, "a.p-b.q", [*sketch.facts, ("shut", "b", "q")]), text, ("a", "p"),
+            self.assert_kept(sketch_of(sketch.crossings, "a.p-b.q", [*sketch.facts, ("shut", "b", "q")]), text,
+                             ("a", "p"),
                              "b", "comes")
 
     def test_further_crossings(self):
@@ -182,7 +186,8 @@ class LeastTest(VerdictCase):
         self.assert_broken(sketch, "if sign church\n  here", ("a", "p"), "b", "comes", 1, "lost")
         self.assert_broken(sketch, "if sign church\n  here", ("a", "p"), "b", "true", 2, "wrong")
         self.assert_broken(sketch, lines("until sign church", "  go on", "here"), ("a", "p"), "b", "comes", 2, "wrong")
-        self.assert_broken(sketch, lines("until sign church", "  if left", "    go left 1", "  else", "    go on", "here"),
+        self.assert_broken(sketch, lines("until sign church", "  if left", "    go left 1", "  else", "    go on",
+                                         "here"),
                            ("a", "p"), "b", "stays", 2, "leaves")
         text = lines("until sign church", "  go on", "  if on", "    go on", "    if on", "      go back", "here")
         only = sketch_of(sketch.crossings, "a.p-b.q", [*sketch.facts, ("only", "church")])
@@ -237,6 +242,16 @@ class TownTest(VerdictCase):
         town = verdict(sketch, Directions(text), ("a", "p"), "b", "true")[1]
         self.assertLessEqual(set(names), set(town.names))
 
+    def test_many_further_crossings(self):
+        crossings = [(name, ("p", "q", "r", "s"), (), ()) for name in ("v", "w", "x", "y", "z")]
+        sketch = sketch_of(crossings, "v.p-w.p", [("shut", row[0], "p") for row in crossings])
+        text = lines(*["again 3", "  until ends 4", "    if ends 4", "      here", "  go on"] * 3, "here")
+        self.assert_broken(sketch, text, ("v", "p"), "z", "true", 36, "wrong")
+        town, fit = verdict(sketch, Directions(text), ("v", "p"), "z", "true")[1:]
+        # What further ends, and those that lead off, are joined to is no part of the way.
+        self.assertEqual(9, len(fit[1][0]))
+        self.assertTrue(all(1 <= len(name) <= 8 for name in town.names))
+
     def test_what_leads_off_and_rings(self):
         sketch = sketch_of([("a", ("p", "q", "r"), (("p", "r"),), ()), ("b", ("p",), (), ())], "a.p-a.q",
                            [("full", "a"), ("shut", "b", "p")])
@@ -263,10 +278,12 @@ class KeptTest(VerdictCase):
                            [("full", "a"), ("full", "b"), ("shut", "a", "p"), ("shut", "b", "q"), ("only", "oak")])
         text = lines("while not sign oak", "  go on", "go back", "while not sign oak", "  go on", "here")
         self.assert_kept(sketch, text, ("a", "p"), "a", "comes")
-        text = lines("if not sign oak", "  go on", "  until sign oak", "    go on", "  go back", "  if sign oak", "    here",
+        text = lines("if not sign oak", "  go on", "  until sign oak", "    go on", "  go back", "  if sign oak",
+                     "    here",
                      "  go on")
         self.assert_kept(sketch, text, ("b", "q"), "a", "true")
-        text = lines("if not sign oak", "  if left", "    here", "  go on", "  until sign oak", "    go on", "  go back",
+        text = lines("if not sign oak", "  if left", "    here", "  go on", "  until sign oak", "    go on",
+                     "  go back",
                      "until sign oak", "  go on", "here")
         self.assert_broken(sketch, text, ("a", "p"), "a", "comes", 0)
 
@@ -286,7 +303,8 @@ class MoreTest(VerdictCase):
 
     def test_wishes(self):
         kept = 0
-        for facts, text in itertools.product(((), FACTS, CLOSED), (example_directions().text, "here", "go left 1\nhere")):
+        for facts, text in itertools.product(((), FACTS, CLOSED),
+                                             (example_directions().text, "here", "go left 1\nhere")):
             for start, goal in itertools.product((STATION, ("baker", "p"), ("bridge", "b")), ("baker", "bridge")):
                 sketch, directions = example_sketch(facts), Directions(text)
                 if verdict(sketch, directions, start, goal, "comes")[0] == "kept":
@@ -316,8 +334,10 @@ class MoreTest(VerdictCase):
 class ErrorsTest(unittest.TestCase):
     def raised(self, error, start, goal, wish):
         values = []
-        for call in (verdict, lambda *rest: shows_verdict(*rest, ("kept", CASES)), lambda *rest: shows_verdict(*rest, 1)):
-            values.append(caught(self, error, call, example_sketch(FACTS), example_directions(), start, goal, wish).value)
+        for call in (verdict, lambda *rest: shows_verdict(*rest, ("kept", CASES)),
+                     lambda *rest: shows_verdict(*rest, 1)):
+            values.append(caught(self, error, call, example_sketch(FACTS), example_directions(), start, goal,
+                                 wish).value)
         self.assertTrue(all(value is values[0] for value in values))
         return values[0]
 

@@ -69,9 +69,11 @@ class WorthAskingTest(unittest.TestCase):
         text = example_directions().text
         facts = (("full", "baker"), ("full", "bridge"))
         self.assert_worth_asking(example_sketch(FACTS), text, STATION, "baker", "comes", facts, 1, 0)
-        self.assertEqual((), worth_asking(example_sketch(FACTS), Directions(text), STATION, "baker", "comes", facts)[0][0][0])
+        self.assertEqual((), worth_asking(example_sketch(FACTS), Directions(text), STATION, "baker", "comes",
+                                          facts)[0][0][0])
         self.assert_worth_asking(example_sketch(), text, STATION, "bridge", "comes", facts, 0, 1)
-        self.assertEqual(facts, worth_asking(example_sketch(), Directions(text), STATION, "bridge", "comes", facts)[1][0][0])
+        self.assertEqual(facts, worth_asking(example_sketch(), Directions(text), STATION, "bridge", "comes",
+                                             facts)[1][0][0])
 
     def test_one_fact(self):
         text = example_directions().text
@@ -135,9 +137,12 @@ class ShowsWorthAskingTest(unittest.TestCase):
         least, greatest = self.found
         self.assertIs(True, self.shown((least, greatest)))
         for value in ((greatest, least), (least,), (least, greatest, ()), [least, greatest], (list(least), greatest),
-                      (least, list(greatest)), ((), greatest), (least, ()), (least, greatest[1:]), (least, greatest[::-1]),
-                      (least, greatest + greatest[:1]), (least + least, greatest), (((FACTS[:2], least[0][1]),), greatest),
-                      (((list(FACTS), least[0][1]),), greatest), ((least[0] + (0,),), greatest), ((least[0][:1],), greatest),
+                      (least, list(greatest)), ((), greatest), (least, ()), (least, greatest[1:]),
+                      (least, greatest[::-1]),
+                      (least, greatest + greatest[:1]), (least + least, greatest),
+                      (((FACTS[:2], least[0][1]),), greatest),
+                      (((list(FACTS), least[0][1]),), greatest), ((least[0] + (0,),), greatest),
+                      ((least[0][:1],), greatest),
                       (([FACTS, least[0][1]],), greatest), (least, greatest[:2] + (greatest[2][:2],)),
                       (least, greatest[:2] + (greatest[2] + (0,),)), (least, greatest[:2] + (list(greatest[2]),)),
                       (least, greatest[:2] + ((FACTS, *greatest[2][1:]),))):
@@ -159,7 +164,8 @@ class ErrorsTest(unittest.TestCase):
     def raised(self, error, start, goal, wish, facts):
         sketch, directions = example_sketch((("full", "baker"),)), example_directions()
         value = caught(self, error, worth_asking, sketch, directions, start, goal, wish, facts).value
-        self.assertIs(value, caught(self, error, shows_worth_asking, sketch, directions, start, goal, wish, facts, 0).value)
+        self.assertIs(value, caught(self, error, shows_worth_asking, sketch, directions, start, goal, wish, facts,
+                                    0).value)
         return value
 
     def test_any_values(self):
@@ -173,9 +179,12 @@ class ErrorsTest(unittest.TestCase):
 
     def test_facts(self):
         seven = tuple(sorted(SIX + (("full", "station"),)))
-        for facts in (seven, (), FACTS[::-1], FACTS[:1] * 2, list(FACTS), (("full", "baker"),), FACTS + (("shut", "bridge", "d"),),
-                      (("clear", "bridge", "b"),), (("clear", "station", "s"),), (("full", "yard"),), (("only", "Inn"),),
-                      (["only", "inn"],), (("only", "inn", "oak"),), ("only", "inn"), (("shut", "yard", "p"),), (("wide", "inn"),),
+        for facts in (seven, (), FACTS[::-1], FACTS[:1] * 2, list(FACTS), (("full", "baker"),),
+                      FACTS + (("shut", "bridge", "d"),),
+                      (("clear", "bridge", "b"),), (("clear", "station", "s"),), (("full", "yard"),),
+                      (("only", "Inn"),),
+                      (["only", "inn"],), (("only", "inn", "oak"),), ("only", "inn"), (("shut", "yard", "p"),),
+                      (("wide", "inn"),),
                       (("clear", "baker", "p"), ("full", "baker"))):
             self.assertIs(facts, self.raised(BadFacts, STATION, "baker", "comes", facts))
 
